@@ -1,0 +1,1 @@
+"""Closestfit: templates that compute, and the closest fit of each use."""
