@@ -10,9 +10,13 @@ def is_open(signature, kind):
 
 
 def places(value):
-    if isinstance(value, int) or value[0] == "#":
-        return 1
-    return 1 + sum(places(part) for part in value[1:])
+    many, waiting = 0, [value]
+    while waiting:
+        here = waiting.pop()
+        many += 1
+        if not isinstance(here, int) and here[0] != "#":
+            waiting.extend(here[1:])
+    return many
 
 
 def order_key(signature, kind, value):
