@@ -38,7 +38,7 @@ class Counts:
         left, right = parts
         return sum([self.number(left, i) * self.number(right, size - 1 - i) for i in range(1, size - 1)])
 
-    def index(self, rows):
+    def position(self, rows):
         """The number of values that come before the value with these rows."""
         done = []
         for kind, head in rows[::-1]:

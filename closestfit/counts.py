@@ -163,7 +163,7 @@ def index_of(signature, kind, strangers, value):
     rows = read_value(shapes, kind, value, MOST_SIZE)
     if rows is None or not all([is_below(head, strangers) for _, head in rows]):
         raise BadValue("value")
-    return counts_below(shapes, strangers).index(rows)
+    return counts_below(shapes, strangers).position(rows)
 
 
 def is_below(head, strangers):

@@ -135,3 +135,18 @@ def tangled_case(signature, kinds, dice, most, variables):
         name, parts = dice.choice(fitting)
         return (name, *[term(part, (left - 1) // max(1, len(parts))) for part in parts])
     return tuple(term(kind, most) for kind in kinds)
+
+
+def equal_table(signature, kinds, dice, many):
+    """Patterns without constructors that want some of their terms equal."""
+    found = []
+    for _ in range(many):
+        terms = list(range(len(kinds)))
+        for _ in range(dice.randint(1, 2)):
+            one, other = dice.randrange(len(kinds)), dice.randrange(len(kinds))
+            if kinds[one] == kinds[other]:
+                terms = [terms[one] if term == terms[other] else term for term in terms]
+        pattern = plain_cases.numbered(tuple(terms))
+        if pattern not in found and pattern != tuple(range(len(kinds))):
+            found.append(pattern)
+    return tuple(found)

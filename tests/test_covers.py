@@ -10,7 +10,7 @@ from closestfit.kinds import is_finite
 from closestfit.patterns import is_below, matches
 from closestfit.strangers import with_constructor
 from tests import plain, plain_cases
-from tests.makers import (covering_table, much_changed, odd_case, some_case, some_kinds, some_table, tangled_case,
+from tests.makers import (covering_table, equal_table, much_changed, odd_case, some_case, some_kinds, some_table, tangled_case,
                           values_of)
 from tests.samples import MIXED, NOTHINGS, NUMBERS, ONE, TYPES, bad, chain, deep_things, some_signatures, too_large
 
@@ -187,6 +187,29 @@ class Points51To54(unittest.TestCase):
         table = ((0, 1, 1, 2, 0), (0, 1, 2, 3, 3))
         tree = self.told(YES, (0, 0, 0, 0, 0), (5, 6, 7, 8, 5), table, (1,))
         self.assertEqual(tree, ("left", (("yes",), ("yes",), ("yes",), ("no",), ("yes",))))
+
+    def test_the_least_weight_where_parts_are_wanted_equal(self):
+        """Of the last four, of two values each, two pairs are equal or unlike; the first two have four values each."""
+        table = ((0, 0, 1, 2, 3), (0, 1, 2, 2, 3), (0, 1, 2, 3, 2), (0, 1, 2, 3, 3))
+        tree = self.told(YES, (1, 1, 0, 0, 0), (0, 1, 2, 3, 4), table)[1]
+        self.assertEqual(tree, ("split", 2, (
+            ("split", 3, (("by", 1), ("split", 4, (("by", 2), ("by", 3))))),
+            ("split", 3, (("split", 4, (("by", 3), ("by", 2))), ("by", 1))))))
+
+    def test_all_shapes_of_patterns_that_want_parts_equal(self):
+        dice = random.Random(56)
+        signature = (("closed", (("ya", ()), ("yb", ()))), ("closed", (("ta", ()), ("tb", ()), ("tc", ()))),
+                     ("closed", (("both", (0, 0)), ("none", ()))))
+        covered = 0
+        for _ in range(1500):
+            kinds = tuple(dice.choice((0, 0, 0, 1, 2)) for _ in range(dice.randint(3, 6)))
+            table = equal_table(signature, kinds, dice, dice.randint(3, 10))
+            case = tuple(range(len(kinds))) if dice.random() < 0.7 else tangled_case(signature, kinds, dice, 4, 4)
+            numbers = tuple(range(len(table)))
+            right = plain_cases.told_cover_evidence(signature, kinds, case, table, numbers, [True] * 3)
+            self.assertEqual(self.told(signature, kinds, case, table), right)
+            covered += right[0] == "covered"
+        self.assertGreater(covered, 200)
 
     def test_a_pattern_with_a_variable_that_is_not_finite_does_not_ask(self):
         self.assertEqual(self.told(NUMBERS, (0, 0), (0, 1), ((0, 0),)), ("left", (ZERO, nxt(ZERO))))

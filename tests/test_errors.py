@@ -2,9 +2,12 @@
 
 import unittest
 
-from closestfit.errors import BadValue, FitError, NotPossible, TextError, TooLarge
+from closestfit.choice import choice_evidence, fixed_evidence
 from closestfit.counts import number_of, value_at
+from closestfit.covers import cover_evidence
+from closestfit.errors import BadValue, FitError, NotPossible, TextError, TooLarge
 from closestfit.kinds import is_value
+from closestfit.meets import meet_evidence
 from closestfit.strangers import exchanged, renumbered, with_constructor
 from tests.samples import NUMBERS, TYPES, bad, not_possible, too_large
 
@@ -74,6 +77,19 @@ class OrderOfErrors(unittest.TestCase):
             self.assertEqual(value_at(NUMBERS, 1, 2, 5), value_at(NUMBERS, 1, 2, 5))
             self.assertEqual(renumbered(TYPES, (0,), (("pair", ("#", 4), ("#", 2)),)),
                              (("pair", ("#", 0), ("#", 1)),))
+
+    def test_equal_calls_tell_equal_evidence(self):
+        """Point 2, also where the document does not say which evidence is told."""
+        one, other, third = (0, 1), (("ptr", 0), 0), (("ptr", 0), ("ptr", 1))
+        calls = (lambda: meet_evidence(TYPES, (0, 0), one, other), lambda: meet_evidence(TYPES, (0, 0), (0, 0), (0, ("ptr", 0))),
+                 lambda: fixed_evidence(TYPES, (0, 0), (one, third), (0, 1), 0),
+                 lambda: fixed_evidence(TYPES, (0, 0), (one, third), (("int",), 1), 0),
+                 lambda: cover_evidence(NUMBERS, (0,), (0,), ((("zero",),), (("next", 0),)), (0, 1)),
+                 lambda: choice_evidence(TYPES, (0, 0), (one, third), (("int",), ("int",))))
+        told = [call() for call in calls]
+        self.assertEqual([evidence[0] for evidence in told], ["meet", "apart", "free", "fixed", "covered", "one"])
+        for _ in range(3):
+            self.assertEqual([call() for call in calls], told)
 
 
 if __name__ == "__main__":

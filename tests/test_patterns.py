@@ -71,7 +71,8 @@ class Point23(unittest.TestCase):
     def test_numbered_patterns(self):
         for value in ((0, 0), (0, 1), (ptr(0), pair(1, 0)), (pair(0, 1), 2), (INT, 0), (INT, INT)):
             self.assertIs(is_pattern(TYPES, (0, 0), value), True)
-        for value in ((1, 0), (1, 1), (0, 2), (pair(1, 0), 2), (INT, 1), (pair(0, 2), 1)):
+        for value in ((1, 0), (1, 1), (0, 2), (pair(1, 0), 2), (INT, 1), (pair(0, 2), 1), (pair(0, 0), 2), (pair(0, 1), 3),
+                      (pair(0, pair(0, 0)), 3), (pair(0, pair(0, 1)), 3)):
             self.assertIs(is_pattern(TYPES, (0, 0), value), False)
             self.assertIs(is_case(TYPES, (0, 0), value), True)
 
