@@ -68,10 +68,10 @@ def wanted_given(shapes, kinds, terms):
     return found
 
 
-def wanted_table(shapes, kinds, table):
+def wanted_table(shapes, kinds, table, name="table"):
     found = read_table(shapes, kinds, table)
     if found is None:
-        raise BadValue("table")
+        raise BadValue(name)
     return found
 
 

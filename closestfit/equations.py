@@ -107,10 +107,7 @@ def shows_meet(store, kinds, one, other, value):
         # They never get smaller again.
         if store.places(one) > MOST_IN_MEET or store.places(other) > MOST_IN_MEET:
             return False
-    if one != other or not is_tuple_of(value[1], len(kinds), len(kinds)):
-        return False
-    meet = store.numbered(kinds, one)
-    return all([store.same(node, term) for node, term in zip(meet, value[1])])
+    return one == other and store.are_same(store.numbered(kinds, one), value[1])
 
 
 def shows_meet_or_apart(store, kinds, one, other, value):

@@ -16,7 +16,7 @@ def head_of(shapes, kind, term, leaves):
     """The head of the term, or None if it is none of this kind."""
     if leaves == VARIABLES and is_natural(term):
         return term
-    if not is_tuple_of(term, 1, 3) or not isinstance(term[0], str):
+    if not isinstance(term, tuple) or not term or not isinstance(term[0], str):
         return None
     name = term[0]
     if name == "#":

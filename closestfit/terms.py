@@ -40,9 +40,13 @@ class Terms:
 
     def load(self, rows):
         """The nodes of the terms with these rows."""
+        return self.load_by(self.shapes, rows)
+
+    def load_by(self, shapes, rows):
+        """The same, where these shapes tell how many parts each head has."""
         done = []
         for _, head in rows[::-1]:
-            parts = tuple([done.pop() for _ in range(arity(self.shapes, head))])
+            parts = tuple([done.pop() for _ in range(arity(shapes, head))])
             done.append(self.put(head, parts))
         return tuple(done[::-1])
 
@@ -138,6 +142,12 @@ class Terms:
             if isinstance(head, str):
                 waiting += list(zip(self.parts[node], term[1:]))
         return True
+
+    def are_same(self, nodes, terms):
+        """Whether this is the tuple of the terms of these nodes."""
+        if not is_tuple_of(terms, len(nodes), len(nodes)):
+            return False
+        return all([self.same(node, term) for node, term in zip(nodes, terms)])
 
 
 def is_stranger(term):

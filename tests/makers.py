@@ -150,3 +150,24 @@ def equal_table(signature, kinds, dice, many):
         if pattern not in found and pattern != tuple(range(len(kinds))):
             found.append(pattern)
     return tuple(found)
+
+
+def crossing_table(signature, kinds, dice, many):
+    """Patterns that ask for something at few places, so that most of them meet each other."""
+    found = []
+    for _ in range(many):
+        pool = {}
+        terms = []
+        for kind in kinds:
+            if dice.random() < 0.4:
+                terms.append(some_term(signature, kind, dice, 3, pool, lambda number: number))
+                continue
+            known = [variable for variable, near in pool.items() if near == kind]
+            if not known or dice.random() < 0.8:
+                known = [len(pool)]
+            pool[known[0]] = kind
+            terms.append(known[0])
+        pattern = plain_cases.numbered(tuple(terms))
+        if plain_cases.size(pattern) <= 12 and pattern not in found:
+            found.append(pattern)
+    return tuple(found)

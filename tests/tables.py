@@ -1,0 +1,81 @@
+"""Tables with large meets, large trees and large values, for tests of several chapters."""
+
+import itertools
+
+from tests import plain_cases
+from tests.samples import chain
+
+INT = ("int",)
+NIL = ("nil",)
+SIX = (0,) * 6
+
+
+def meeting_in(many):
+    """Two patterns of six terms whose meet has 60 or 61 places."""
+    return (0, 0, 0, 0, 0, chain("ptr", many - 56, 1)), (chain("ptr", 10, 0), 1, 2, 3, 4, 5)
+
+
+def split_tree(many):
+    """A tree for (next(0)) or (0) with so many leaves by the number 0, and one more for each further split."""
+    tree = ("by", 0)
+    for number in range(many - 1, 0, -1):
+        tree = ("split", number - 1, (("by", 0), tree))
+    return tree
+
+
+def leaves_of(tree):
+    return [tree] if tree[0] == "by" else [leaf for inner in tree[2] for leaf in leaves_of(inner)]
+
+
+FORKS = (("closed", (("fork", (0, 0)), ("nil", ()), ("wrap", (0,)))),)
+
+
+def fork_path(steps):
+    """A term with forks along the way, nil at its end, and other variables beside."""
+    numbers = itertools.count(1)
+    parts = []
+    for here in steps:
+        parts.append(("fork", None, "aside") if here == "L" else ("fork", "aside", None))
+    term = NIL
+    for part in parts[::-1]:
+        term = tuple(term if item is None else item for item in part)
+
+    def counted(term):
+        if term == "aside":
+            return next(numbers)
+        return (term[0], *[counted(part) for part in term[1:]])
+    return counted(term)
+
+
+PATHS = ("LLLLLLL", "RLLLLLL", "LRLLLLL", "RRLLLLL", "LLRLLLL", "LRRLLLL", "RLRL")
+
+
+def great_value(wraps):
+    """A table whose pattern 0 is chosen at told values of 399 places and one for each wrap."""
+    term = 0
+    for _ in range(4):
+        term = ("fork", 0, term)
+    return FORKS, (0, 0), ((chain("wrap", wraps, term), 0), *[(0, fork_path(steps)) for steps in PATHS])
+
+
+def boxed_pigeons(special):
+    """A table whose first two patterns meet in a case with 33 leaves wherever no special pattern says what is chosen.
+
+    The two ask for nothing but a constructor that always is there, with a
+    letter of four and one of three in it. The last four terms are letters of
+    three, so two of them are equal. The patterns behind the two are below both.
+    """
+    signature = (("closed", (("xa", ()), ("xb", ()), ("xc", ()))),
+                 ("closed", (("wa", ()), ("wb", ()), ("wc", ()), ("wd", ()))), ("closed", (("vv", (1, 0)),)))
+    rows = [(("vv", 0, 1), 2, 3, 4, 5, 6), (0, ("vv", 1, 2), 3, 4, 5, 6)]
+    rows += [(("vv", (more[0],) if more else 7, (one,)), ("vv", (other,), 8), 0, 1, 2, 3) for one, other, *more in special]
+    for i, j in itertools.combinations(range(4), 2):
+        last = [2, 3, 4, 5]
+        last[j] = last[i]
+        rows.append((("vv", 7, 8), ("vv", 9, 10), *last))
+    return signature, (2, 2, 0, 0, 0, 0), tuple(plain_cases.numbered(row) for row in rows)
+
+
+# With these the tree for the meet of the first two patterns has 300 leaves, with the further one more.
+SPECIAL = (("xa", "wa"), ("xb", "wb"), ("xc", "wd"))
+MORE_SPECIAL = (*SPECIAL, ("xa", "wb", "wa"))
