@@ -310,7 +310,7 @@ class Point82(unittest.TestCase):
         """The meet of two patterns is split, and its parts are put behind them."""
         dice = random.Random(83)
         many = 0
-        for signature in some_signatures(300, 83):
+        for signature in some_signatures(300, 83) * 5:
             kinds = tuple(dice.randrange(len(signature)) for _ in range(2))
             table = crossing_table(signature, kinds, dice, 2)
             meet = plain_cases.meet(*table) if len(table) == 2 else None

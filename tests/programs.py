@@ -1,0 +1,140 @@
+"""Programs by dice that always fall the same way, and the programs of the examples."""
+
+import random
+
+from closestfit.programs import is_program
+from tests import plain, plain_cases
+from tests.makers import some_pattern
+from tests.samples import NUMBERS, TYPES, some_signatures
+
+NAMES = ("Add", "B", "Cee", "Dddddddd", "Ex", "F")
+
+
+def some_body(program, kind, known, dice, most, flat=()):
+    """A body of the kind with at most so many places, or None; flat are the variables that may stand in first arguments."""
+    signature, generics = program
+    ways = [(variable,) for variable, near in known.items() if near == kind]
+    if most > 1:
+        ways += [(name, *parts) for name, parts in signature[kind][1] if len(parts) < most] * (1 if dice.random() < 0.7 else 2)
+        ways += [(name, *kinds) for name, kinds, result in generics if result == kind and len(kinds) < most] * 2
+    else:
+        ways += [(name,) for name, parts in signature[kind][1] if not parts]
+    while ways:
+        way = dice.choice(ways)
+        if isinstance(way[0], int):
+            return way[0]
+        parts = []
+        left = most - 1
+        for i, part in enumerate(way[1:]):
+            room = left - (len(way) - 2 - i)
+            narrow = flat != () and i == 0 and way[0][0].isupper()
+            inner = (signature, ()) if narrow else program
+            variables = {v: near for v, near in known.items() if v in flat} if narrow else known
+            parts.append(some_body(inner, part, variables, dice, max(1, min(room, dice.randint(1, 5))), () if narrow else flat))
+            if parts[-1] is None:
+                break
+            left -= body_places(parts[-1])
+        if None not in parts:
+            return (way[0], *parts)
+        ways = [other for other in ways if other != way]
+    return None
+
+
+def body_places(body):
+    return 1 if isinstance(body, int) else 1 + sum(body_places(part) for part in body[1:])
+
+
+def some_program(signature, dice, most=8, flat=False, lively=0.0):
+    kinds = range(len(signature))
+    generics = tuple((name, tuple(dice.choice(kinds) for _ in range(dice.randint(1, 2 if lively else 3))), dice.choice(kinds))
+                     for name in dice.sample(NAMES, dice.randint(1, 4)))
+    found = []
+    for _ in range(dice.randint(0, most)):
+        name, parameters, kind = dice.choice(generics)
+        pattern = flat_pattern(signature, parameters, dice) if flat else some_pattern(signature, parameters, dice, dice.randint(1, 4))
+        if plain_cases.size(pattern) > 12:
+            continue
+        known = plain_cases.kinds_of_variables(signature, parameters, pattern)
+        firsts = tuple(plain_cases.variables_in(pattern[:1])) + (-1,) if flat else ()
+        body = some_body((signature, generics), kind, known, dice, dice.randint(1, 9), firsts)
+        if body is not None and pattern not in [one for own, one, _ in found if own == name]:
+            found.append((name, pattern, body))
+    program = (signature, generics, tuple(found))
+    assert is_program(program), program
+    return program
+
+
+def flat_pattern(signature, parameters, dice):
+    first = signature[parameters[0]][1]
+    start = 0
+    term = 0
+    if first and dice.random() < 0.7:
+        name, parts = dice.choice(first)
+        term = (name, *range(len(parts)))
+        start = len(parts)
+    else:
+        start = 1
+    return (term, *range(start, start + len(parameters) - 1))
+
+
+def some_programs(many, seed, **more):
+    """Pairs of dice and program."""
+    dice = random.Random(seed)
+    for number, signature in enumerate(some_signatures(many, seed)):
+        if number % 5 == 0:
+            signature = NUMBERS if number % 2 else TYPES
+        yield dice, some_program(signature, dice, **more)
+
+
+def some_use(program, dice, strangers=2):
+    signature, generics, _ = program
+    name, kinds, _ = dice.choice(generics)
+    return (name, *plain.some_values(signature, kinds, strangers, dice))
+
+
+def small_use(program, dice, strangers=2):
+    """A use of values with few places."""
+    signature, generics, _ = program
+    name, kinds, _ = dice.choice(generics)
+    return (name, *[dice.choice(plain.ordered_values(signature, kind, strangers, 5)[:8] or
+                                plain.ordered_values(signature, kind, strangers, 7)[:8]) for kind in kinds])
+
+
+def fitting_use(program, dice, strangers=2):
+    """A use that a definition matches, if there is one."""
+    signature, generics, definitions = program
+    if not definitions or dice.random() < 0.2:
+        return small_use(program, dice, strangers)
+    name, pattern, _ = dice.choice(definitions)
+    kinds = [kinds for own, kinds, _ in generics if own == name][0]
+    standing = plain_cases.kinds_of_variables(signature, kinds, pattern)
+    what = {}
+    for variable, kind in standing.items():
+        values = plain.ordered_values(signature, kind, strangers, 5)[:8] or plain.ordered_values(signature, kind, strangers, 7)[:8]
+        what[variable] = dice.choice(values)
+    return (name, *plain_cases.put(pattern, what))
+
+
+ZERO = ("zero",)
+
+
+def nxt(term):
+    return ("next", term)
+
+
+def number(many):
+    value = ZERO
+    for _ in range(many):
+        value = nxt(value)
+    return value
+
+
+# Point 97.
+SPECIAL = (NUMBERS, (("Pred", (0,), 0), ("Twice", (0,), 0)),
+           (("Pred", (nxt(0),), 0), ("Twice", (0,), ("Pred", 0)), ("Twice", (ZERO,), ZERO)))
+# Points 97 and 112.
+EXAMPLE = (NUMBERS, (("Add", (0, 0), 0), ("Half", (0,), 0), ("Pick", (0, 0), 0), ("Spin", (0,), 0)), (
+    ("Add", (ZERO, 0), 0), ("Add", (nxt(0), 1), nxt(("Add", 0, 1))),
+    ("Half", (ZERO,), ZERO), ("Half", (nxt(nxt(0)),), nxt(("Half", 0))),
+    ("Pick", (ZERO, 0), ("Half", ("Add", ZERO, nxt(ZERO)))), ("Pick", (nxt(0), 1), 1), ("Pick", (0, nxt(ZERO)), 0),
+    ("Spin", (0,), ("Add", ("Half", 0), ("Spin", 0)))))
