@@ -138,3 +138,55 @@ EXAMPLE = (NUMBERS, (("Add", (0, 0), 0), ("Half", (0,), 0), ("Pick", (0, 0), 0),
     ("Half", (ZERO,), ZERO), ("Half", (nxt(nxt(0)),), nxt(("Half", 0))),
     ("Pick", (ZERO, 0), ("Half", ("Add", ZERO, nxt(ZERO)))), ("Pick", (nxt(0), 1), 1), ("Pick", (0, nxt(ZERO)), 0),
     ("Spin", (0,), ("Add", ("Half", 0), ("Spin", 0)))))
+
+LISTS = (("closed", (("nil", ()), ("cons", (1, 0)))), ("open", (("aa", ()), ("box", (0,)))))
+TREES = (("closed", (("leaf", ()), ("fork", (0, 0)))), ("closed", (("yes", ()), ("no", ()))))
+LIVELY = (NUMBERS[:1], NUMBERS, LISTS, TREES, TYPES)
+
+
+def lively_program(dice, flat=False):
+    """A program whose uses mostly lead to other uses, on parts of their values, and often come to a value."""
+    signature = dice.choice(LIVELY)
+    kinds = range(len(signature))
+    generics = tuple((name, tuple(dice.choice(kinds) for _ in range(dice.randint(1, 2))), dice.choice(kinds))
+                     for name in dice.sample(NAMES, dice.randint(1, 3)))
+    found = []
+    for name, parameters, kind in generics:
+        rows = [((own, *range(len(parts))), len(parts)) for own, parts in signature[parameters[0]][1]]
+        if signature[parameters[0]][0] == "open" or dice.random() < 0.2:
+            rows.append((0, 1))
+        for first, start in rows:
+            pattern = (first, *range(start, start + len(parameters) - 1))
+            if not flat and dice.random() < 0.25:
+                pattern = some_pattern(signature, parameters, dice, 3)
+            known = plain_cases.kinds_of_variables(signature, parameters, pattern)
+            firsts = tuple(plain_cases.variables_in(pattern[:1])) + (-1,) if flat else ()
+            program = (signature, generics)
+            body = some_body(program, kind, known, dice, dice.randint(1, 9), firsts)
+            if not flat and dice.random() < 0.8:
+                body = lessened(program, kind, known, pattern, dice) or body
+            if body is not None and dice.random() < 0.95 and pattern not in [one for own, one, _ in found if own == name]:
+                found.append((name, pattern, body))
+    dice.shuffle(found)
+    program = (signature, generics, tuple(found))
+    assert is_program(program), program
+    return program
+
+
+def lessened(program, kind, known, pattern, dice):
+    """A body with uses of parts of the first term, mostly, or None."""
+    body = some_body(program, kind, known, dice, dice.randint(2, 9))
+    if body is None or isinstance(pattern[0], int):
+        return body
+    parts = plain_cases.variables_in(pattern[:1])
+    first_kinds = {name: kinds[0] for name, kinds, _ in program[1]}
+
+    def lower(term):
+        if isinstance(term, int):
+            return term
+        rest = [lower(part) for part in term[1:]]
+        fitting = [v for v in parts if first_kinds.get(term[0]) == known[v]]
+        if fitting and dice.random() < 0.9:
+            rest[0] = dice.choice(fitting)
+        return (term[0], *rest)
+    return lower(body)
