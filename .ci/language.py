@@ -152,6 +152,9 @@ class Check(ast.NodeVisitor):
             self.check_pass(node)
         if isinstance(node.func, ast.Name) and node.func.id == "set":
             self.check_set(node)
+        for argument in node.args:
+            if isinstance(argument, ast.Starred) and not isinstance(argument.value, (ast.Name, ast.Attribute)):
+                self.say(node, "L7: behind a star stands a name or an attribute")
         self.generic_visit(node)
 
     def check_pass(self, node):

@@ -75,11 +75,6 @@ class Program:
             return found
         return ("two", self.numbers[name][found[1]], self.numbers[name][found[2]])
 
-    def kinds_of_variables(self, number):
-        """The kinds of the variables of the pattern of a definition."""
-        definition = self.definitions[number]
-        return self.store.variables(self.parameters[definition.name], definition.pattern)
-
 
 def is_generic_name(value):
     if not isinstance(value, str) or not 1 <= len(value) <= 8:

@@ -48,7 +48,9 @@ class Descents:
         found = {head: True for head in starts}
         # Each round goes one edge further, and no row without a ring has more.
         for _ in self.heads.order:
-            found = {**found, **{edge[2:]: True for edge in self.edges if edge[:2] in found}}
+            further = [edge[2:] for edge in self.edges if edge[:2] in found]
+            for head in further:
+                found[head] = True
         return [head for head in self.heads.order if head in found]
 
     def fall(self, heads):

@@ -89,11 +89,9 @@ def goes_down(heads, claims, claim, path, numbers):
     starts = [(generic, first) for right, generic, first in heads.uses[claim[:2]] if right == path]
     if not starts:
         return False
-    end = end_of_way(heads, claims, numbers, *starts[0])
-    if end is None or end[0] != claim[2]:
-        return False
-    last = heads.outermost(end[1])
-    return (heads.store.heads[end[1]] if last is None else last) == claim[3]
+    generic, first = starts[0]
+    end = end_of_way(heads, claims, numbers, generic, first)
+    return end is not None and (end[0], heads.last_item(end[1])) == claim[2:]
 
 
 def end_of_way(heads, claims, numbers, generic, node):

@@ -25,7 +25,7 @@ class Heads:
         self.number_at = {}
         for name in program.names:
             for number in program.numbers[name]:
-                self._lay(name, number)
+                self._put_at_heads(name, number)
         # At each head the triples of path, generic and first argument.
         self.uses = {head: self._uses_at(head) for head in self.order}
 
@@ -37,8 +37,8 @@ class Heads:
     def _first(self, number):
         return self.program.definitions[number].pattern[0]
 
-    def _lay(self, name, number):
-        """Lays the body of a definition of the generic with this name at its heads."""
+    def _put_at_heads(self, name, number):
+        """Puts the body of a definition of the generic with this name at its heads."""
         first = self._first(number)
         if self.store.is_made(first):
             self.number_at[(name, self.store.heads[first])] = number
@@ -71,6 +71,10 @@ class Heads:
             return head
         return None if isinstance(head, int) else "#"
 
+    def last_item(self, node):
+        """The last item of a claim about what goes down to the node: the index of a part, or what is outermost."""
+        return self.store.heads[node] if self.store.is_variable(node) else self.outermost(node)
+
     def parts_of(self, head):
         """The kinds of the parts of the constructor of a head."""
         return () if head[1] == "#" else self.program.shapes.parts[head[1]]
@@ -92,13 +96,11 @@ class Heads:
         return found
 
     def claims_at(self, facts, head):
-        """The quadruples of claim, path, facts one after another, and use, of all that goes down at the head."""
+        """The triples of claim, path, and facts one after another, of all that goes down from the uses at the head."""
         found = []
         for path, generic, first in self.uses[head]:
             for (at, below), way in self.downs(facts, generic, first).items():
-                last = self.outermost(below)
-                last = self.store.heads[below] if last is None else last
-                found.append(((*head, at, last), path, way))
+                found.append(((*head, at, self.last_item(below)), path, way))
         return found
 
 

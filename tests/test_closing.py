@@ -260,6 +260,7 @@ class Points78To81(unittest.TestCase):
                       (((0,), ("never", ("by", 0))), *roll[1:]), (((0,), ("apart",)), *roll[1:]), (((0,),), *roll[1:]),
                       (([0], ("old", 0)), *roll[1:]), ((0, ("old", 0)), *roll[1:]), (((0,), ["old", 0]), *roll[1:]), None, 0):
             self.assertIs(accepts_count(TYPES, BOTH, FIRST, 2, ("enough", wrong)), False)
+            self.assertIs(accepts_count(TYPES, BOTH, FIRST, 300, ("enough", wrong)), False)
         for value in (("enough",), ("enough", roll, 0), ["enough", roll], roll, ("few", roll), ("Enough", roll)):
             self.assertIs(accepts_count(TYPES, BOTH, FIRST, 2, value), False)
 

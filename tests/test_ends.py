@@ -368,7 +368,8 @@ class Points118To125(unittest.TestCase):
         some, fall = ends_evidence(FGH)[1:]
         for value in (some[1:], (*some, some[0]), list(some), (*some[1:], list(some[0])), (*some[1:], ("F", "next", "F", False)),
                       (*some, ("F", "next", "F", 1)), (*some, ("F", "zero", "F", 0)), (*some, ("F", "#", "F", 0)), (*some, ("F", "next", "K", 0)),
-                      (*some, ("F", "next", None, 0)), (*some, ("F", "next", "F", -1)), (*some, ("F", "next", "F")), (*some, ("F", "next", "F", 0, 0)),
+                      (*some, ("F", "next", None, 0)), (*some, ("F", "next", ["F"], 0)), (*some, (["F"], "next", "F", 0)), (*some, ("F", ["next"], "F", 0)),
+                      (*some, ("F", "next", "F", -1)), (*some, ("F", "next", "F")), (*some, ("F", "next", "F", 0, 0)),
                       (*some, (("F", "next"), "F", 0)), (*some, ("F", "next", "F", "next")), (*some, None), None, ()):
             self.assertIs(accepts_ends(FGH, ("ends", value, fall)), False)
             self.assertIs(accepts_rows(FGH, ("F", number(2)), ("ends", value, fall)), False)

@@ -235,6 +235,9 @@ class Points102To105(unittest.TestCase):
                     (("Sum", number(1), number(1)), pattern, value), (use, pattern, ["next", number(1)])):
             self.assertIs(are_rows(EXAMPLE, (rows[0], row)), False)
         self.assertIs(are_rows(EXAMPLE, (rows[0], rows[1], rows[1])), False)
+        # What a use in the step is, is not what it comes to.
+        self.assertIs(are_rows(EXAMPLE, ((use, pattern, nxt(("Add", ZERO, number(1)))),)), False)
+        self.assertIs(are_rows(EXAMPLE, ((use, pattern, ("Add", ZERO, number(1))),)), False)
         self.assertIs(are_rows(EXAMPLE, rows[1:]), False)
         self.assertIs(are_rows(EXAMPLE, rows[::-1]), False)
         self.assertIs(are_rows(EXAMPLE, list(rows)), False)

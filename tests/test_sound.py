@@ -296,6 +296,13 @@ class Point96(unittest.TestCase):
         self.assertIs(is_use_evidence(program, 0, (), ("stuck", value, ())), True)
         for rows in ((), ((0, 1, ("by", 2)), (0, 2, ("by", 0)), (1, 2, ("by", 1)))):
             self.assertIs(is_use_evidence(program, 0, (), ("sound", ("by", 2), rows)), False)
+        # Not even if a taker has all of it.
+        taken = (*program[:2], (*program[2], ("F", (pair(0, 1), 2), INT)))
+        too_large(self, "terms", use_evidence, taken, 0, ())
+        rows = ((0, 1, ("by", 0)), (0, 2, ("by", 0)), (1, 2, ("by", 2)))
+        self.assertIs(is_use_evidence(taken, 0, (), ("sound", ("by", 3), rows)), False)
+        smaller = (*taken[:2], (*taken[2][:2], ("G", (0, chain("ptr", 3, 1)), 0), *taken[2][3:]))
+        self.assertIs(is_use_evidence(smaller, 0, (), ("sound", ("by", 3), rows)), True)
 
     def test_the_first_that_is_not_covered_ends_it(self):
         """The joint case comes before the rows, and the rows are looked at in order."""
