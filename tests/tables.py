@@ -30,19 +30,21 @@ def leaves_of(tree):
 FORKS = (("closed", (("fork", (0, 0)), ("nil", ()), ("wrap", (0,)))),)
 
 
-def fork_path(steps):
-    """A term with forks along the way, nil at its end, and other variables beside."""
+def fork_path(steps, last=NIL):
+    """A term with forks along the way, nil or something else at its end, and other variables beside."""
     numbers = itertools.count(1)
     parts = []
     for here in steps:
         parts.append(("fork", None, "aside") if here == "L" else ("fork", "aside", None))
-    term = NIL
+    term = last
     for part in parts[::-1]:
         term = tuple(term if item is None else item for item in part)
 
     def counted(term):
         if term == "aside":
             return next(numbers)
+        if isinstance(term, int):
+            return term
         return (term[0], *[counted(part) for part in term[1:]])
     return counted(term)
 
@@ -56,6 +58,19 @@ def great_value(wraps):
     for _ in range(4):
         term = ("fork", 0, term)
     return FORKS, (0, 0), ((chain("wrap", wraps, term), 0), *[(0, fork_path(steps)) for steps in PATHS])
+
+
+DEEP_PATHS = ("LLLLLL", "RLLLLL", "LRLLLL", "RRLLLL", "LLRLLL", "LRRLLL", "RLRLLL", "RRRLLL", "LLLRLL", "LLRRLL")
+
+
+def great_gap(*last_paths):
+    """A table of one kind that leaves a value with a fork for each different place on the paths.
+
+    All forks end in values of seven places; with the last paths LRLRL and
+    LRRRL the value has 399 places, and with each further fork eight more.
+    """
+    signature = (("closed", (("fork", (0, 0)), ("deep", (1, 1)))), ("closed", (("bb", (2, 2)),)), ("closed", (("cc", ()),)))
+    return signature, (0,), tuple(plain_cases.numbered((fork_path(steps, ("deep", 100, 101)),)) for steps in (*DEEP_PATHS, *last_paths))
 
 
 def boxed_pigeons(special):

@@ -17,7 +17,8 @@ from tests import plain, plain_cases, plain_tables
 from tests.makers import covering_table, much_changed, some_kinds, some_table
 from tests.samples import (MIXED, NOTHINGS, NUMBERS, ONE, TYPES, bad, chain, deep_things, not_possible, some_signatures,
                            too_large)
-from tests.tables import MORE_SPECIAL, SIX, SPECIAL, boxed_pigeons, great_value, leaves_of, meeting_in, split_tree
+from tests.tables import (MORE_SPECIAL, SIX, SPECIAL, boxed_pigeons, great_gap, great_value, leaves_of, meeting_in,
+                          split_tree)
 from tests.test_covers import pigeons
 
 ZERO = ("zero",)
@@ -311,6 +312,16 @@ class Point66(unittest.TestCase):
         too_large(self, "cases", is_complete, signature, kinds, table)
         for many, right in ((300, True), (301, False), (5000, False)):
             self.assertIs(accepts_complete(NUMBERS, (0,), ((0,),), ("complete", split_tree(many))), right)
+
+    def test_told_values_of_more_than_400_places(self):
+        """Point 72: is_complete never raises TooLarge("value")."""
+        signature, kinds, table = great_gap("LRLRL", "LRRRL")
+        told = complete_evidence(signature, kinds, table)
+        self.assertEqual((told[0], plain.places(told[1][0])), ("gap", 399))
+        self.assertIs(accepts_complete(signature, kinds, table, told), True)
+        signature, kinds, table = great_gap("LRLRL", "LRRRLL")
+        too_large(self, "value", complete_evidence, signature, kinds, table)
+        self.assertIs(is_complete(signature, kinds, table), False)
 
     def test_clear_and_complete_if_there_is_a_choice_at_all_values(self):
         found = 0
