@@ -51,7 +51,8 @@ def some_program(signature, dice, most=8, flat=False, lively=0.0):
     found = []
     for _ in range(dice.randint(0, most)):
         name, parameters, kind = dice.choice(generics)
-        pattern = flat_pattern(signature, parameters, dice) if flat else some_pattern(signature, parameters, dice, dice.randint(1, 4))
+        pattern = flat_pattern(signature, parameters, dice) if flat else some_pattern(
+            signature, parameters, dice, dice.randint(1, 4))
         if plain_cases.size(pattern) > 12:
             continue
         known = plain_cases.kinds_of_variables(signature, parameters, pattern)

@@ -70,7 +70,8 @@ def great_gap(*last_paths):
     LRRRL the value has 399 places, and with each further fork eight more.
     """
     signature = (("closed", (("fork", (0, 0)), ("deep", (1, 1)))), ("closed", (("bb", (2, 2)),)), ("closed", (("cc", ()),)))
-    return signature, (0,), tuple(plain_cases.numbered((fork_path(steps, ("deep", 100, 101)),)) for steps in (*DEEP_PATHS, *last_paths))
+    terms = [fork_path(steps, ("deep", 100, 101)) for steps in (*DEEP_PATHS, *last_paths)]
+    return signature, (0,), tuple(plain_cases.numbered((term,)) for term in terms)
 
 
 def boxed_pigeons(special):

@@ -256,7 +256,8 @@ class Points78To81(unittest.TestCase):
         self.assertIs(accepts_count(TYPES, BOTH, FIRST, 2, ("enough", other)), True)
         for wrong in (roll[:4], roll[1:], roll[::-1], (*roll, roll[0]), list(roll), ([(0,), ("old", 0)], *roll[1:]),
                       (((0,), ("old", 1)), *roll[1:]), (((False,), ("old", 0)), *roll[1:]), (((0,), ("old", False)), *roll[1:]),
-                      (*roll[:1], ((0, 1), ("use", (ptr(STAR), ptr(STAR)))), *roll[2:]), (((0,), ("use", (ptr(INT), INT))), *roll[1:]),
+                      (*roll[:1], ((0, 1), ("use", (ptr(STAR), ptr(STAR)))), *roll[2:]),
+                      (((0,), ("use", (ptr(INT), INT))), *roll[1:]),
                       (((0,), ("never", ("by", 0))), *roll[1:]), (((0,), ("apart",)), *roll[1:]), (((0,),), *roll[1:]),
                       (([0], ("old", 0)), *roll[1:]), ((0, ("old", 0)), *roll[1:]), (((0,), ["old", 0]), *roll[1:]), None, 0):
             self.assertIs(accepts_count(TYPES, BOTH, FIRST, 2, ("enough", wrong)), False)
@@ -425,7 +426,8 @@ class Points83And84(unittest.TestCase):
         told = quarrels(signature, kinds, table)
         signature, kinds, table = wide_quarrel(2)
         too_large(self, "cases", quarrel_evidence, signature, kinds, table, (0, 1))
-        for function in (quarrels, needed, lambda s, k, t: count_evidence(s, k, t, 0), lambda s, k, t: count_evidence(s, k, t, 300)):
+        for function in (quarrels, needed, lambda s, k, t: count_evidence(s, k, t, 0), lambda s, k,
+                         t: count_evidence(s, k, t, 300)):
             too_large(self, "cases", function, signature, kinds, table)
         # Other numbers have nothing to do with it.
         self.assertEqual(quarrel_evidence(signature, kinds, table, (2, 3)), ("never", ("by", 0)))

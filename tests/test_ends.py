@@ -157,7 +157,8 @@ class Points116And117(unittest.TestCase):
         generics = (("F", (0,), 0), ("G", (0,), 0))
         program = (TYPES, generics, (("F", (0,), ("G", 0)), ("G", (("ptr", 0),), ("F", 0)), ("G", (("pair", 0, 1),), ("F", 1))))
         self.assertEqual(facts(program), (("F", "ptr", "F", 0), ("F", "pair", "F", 1), ("G", "ptr", "F", 0), ("G", "pair", "F", 1)))
-        self.assertEqual(edges(program), (("F", "int", "G", "int"), ("F", "ptr", "G", "ptr"), ("F", "pair", "G", "pair"), ("F", "#", "G", "#")))
+        self.assertEqual(edges(program), (("F", "int", "G", "int"), ("F", "ptr", "G", "ptr"), ("F", "pair", "G", "pair"),
+                                          ("F", "#", "G", "#")))
         # A use that does not have the variable is there at each head.
         program = (TYPES, generics, (("F", (0,), ("G", INT)),))
         self.assertEqual(edges(program), tuple([("F", letter, "G", "int") for letter in ("int", "ptr", "pair", "#")]))
@@ -194,7 +195,8 @@ class Points116And117(unittest.TestCase):
             return body
         for kind, (_, constructors) in enumerate(program[0]):
             for name, parts in constructors:
-                if parts == (kind,) and plain_programs.is_use_of(program, body) and plain_programs.result_of(program, body[0]) == kind:
+                is_use = plain_programs.is_use_of(program, body)
+                if parts == (kind,) and is_use and plain_programs.result_of(program, body[0]) == kind:
                     return (name, body)
         return body
 
@@ -223,7 +225,8 @@ class Points118To125(unittest.TestCase):
     def variations(self, told, dice):
         if told[0] == "ends":
             _, some, fall = told
-            return [("ends", some[::-1], fall[::-1]), ("ends", some[1:], fall), ("ends", some, tuple([(head, 3 * at - 9) for head, at in fall])),
+            return [("ends", some[::-1], fall[::-1]), ("ends", some[1:], fall),
+                    ("ends", some, tuple([(head, 3 * at - 9) for head, at in fall])),
                     ("ends", some + some[:1], fall), ("ends", some, fall[1:]), ("ends", some, fall + fall[:1]),
                     ("ends", some, tuple([(head, 0) for head, _ in fall]))]
         _, lines, *rest = told
@@ -292,7 +295,8 @@ class Points118To125(unittest.TestCase):
             told = always_value(program)
             self.assertIs(told, plain_rows.always_value(program))
             found[told] += 1
-            complete = all(is_complete(program[0], kinds, plain_programs.patterns_of(program, name)) for name, kinds, _ in program[1])
+            complete = all(is_complete(program[0], kinds, plain_programs.patterns_of(program, name))
+                           for name, kinds, _ in program[1])
             self.assertIs(told, complete and ends_evidence(program)[0] == "ends")
             if told:
                 result = told_or_word(comes_to, program, small_use(program, dice))
@@ -317,7 +321,8 @@ class Points118To125(unittest.TestCase):
         self.assertEqual(rows_evidence(P, ("P", one(("end",))))[2], ((("P", "one"), 0), (("P", "end"), 0)))
         # A shorter row to the same head does not count.
         generics = tuple([(name, (0,), 0) for name in "ABC"])
-        program = (NUMBERS, generics, (("A", (0,), ("C", nxt(("B", 0)))), ("A", (nxt(0),), ("B", nxt(0))), ("B", (0,), ("C", 0)))[:1])
+        program = (NUMBERS, generics, (("A", (0,), ("C", nxt(("B", 0)))), ("A", (nxt(0),), ("B", nxt(0))),
+                                       ("B", (0,), ("C", 0)))[:1])
         self.assertIsNotNone(first_unflat(program))
         program = (NUMBERS, generics, (("A", (0,), nxt(("C", 0))), ("B", (0,), ("C", 0)), ("A", (nxt(0),), ("B", nxt(0)))))
         self.assertEqual(dict(ends_evidence(program)[2]), {("A", "zero"): 1, ("A", "next"): 2, ("B", "zero"): 1, ("B", "next"): 1,
@@ -328,10 +333,12 @@ class Points118To125(unittest.TestCase):
         some, fall = ends_evidence(FGH)[1:]
         for value, right in ((fall, True), (fall[::-1], True), (tuple([(head, at - 5) for head, at in fall]), True),
                              (tuple([(head, at * 10 ** 40) for head, at in fall]), True), (fall[1:], False), (fall[:-1], False),
-                             (tuple([(head, 0) for head, _ in fall]), False), ((*fall, fall[0]), False), ((*fall, (("F", "one"), 0)), False),
+                             (tuple([(head, 0) for head, _ in fall]), False), ((*fall, fall[0]), False),
+                             ((*fall, (("F", "one"), 0)), False),
                              ((*fall, (("F", "#"), 0)), False), (list(fall), False), ((*fall[1:], [("F", "zero"), 0]), False),
                              ((*fall[1:], (("F", "zero"), None)), False), ((*fall[1:], (("F", "zero"), True)), False),
-                             ((*fall[1:], (["F", "zero"], 0)), False), ((*fall[1:], (("F", "zero"),)), False), (None, False), ((), False),
+                             ((*fall[1:], (["F", "zero"], 0)), False), ((*fall[1:], (("F", "zero"),)), False), (None, False),
+                             ((), False),
                              ((*fall[1:], (("F", "zero", 0), 0)), False), ((*fall[1:], ("F", "zero", 0)), False),
                              ((*fall[1:], (("F", True), 0)), False), ((*fall[1:], ((None, "zero"), 0)), False)):
             self.assertIs(accepts_ends(FGH, ("ends", some, value)), right)
@@ -339,7 +346,8 @@ class Points118To125(unittest.TestCase):
         for use, rows, right in ((("H", number(1)), ((("F", "zero"), 0), (("H", "next"), 0)), True), (("H", number(1)), fall, True),
                                  (("H", number(2)), fall[:2] + fall[3:4], False), (("H", number(2)), fall[:2] + fall[3:], True),
                                  (("F", number(1)), ((("F", "zero"), 0), (("F", "next"), 1)), False), (("G", ZERO), (), False),
-                                 (("G", ZERO), ((("G", "zero"), -3),), True), (("G", ZERO), ((("G", "zero"), 0), (("F", "next"), 1)), False)):
+                                 (("G", ZERO), ((("G", "zero"), -3),), True),
+                                 (("G", ZERO), ((("G", "zero"), 0), (("F", "next"), 1)), False)):
             self.assertIs(accepts_rows(FGH, use, ("ends", some, rows)), right)
 
     def test_sets_with_more_facts_than_hold(self):
@@ -349,13 +357,15 @@ class Points118To125(unittest.TestCase):
         closed = (*some, more, ("F", "next", "H", 0))
         told = plain_rows.accepts_program(FGH, ("ends", closed, fall))
         self.assertIs(accepts_ends(FGH, ("ends", closed, fall)), told)
-        # With all facts there are more edges, and they make a ring or not; the set must be closed.
-        every = [(*head, name, i) for head in plain_rows.heads(FGH) for name in "FGH" for i in range(len(plain_rows.parts_of(FGH, head)))]
+        # With other facts there are more edges, and they make a ring or not; the set must be closed.
+        every = [(*head, name, i) for head in plain_rows.heads(FGH) for name in "FGH"
+                 for i in range(len(plain_rows.parts_of(FGH, head)))]
+        levels = {("F", "next"): 3, ("G", "next"): 2, ("H", "next"): 1}
+        greater = tuple([(head, levels.get(head, 0)) for head, _ in fall])
         found = {True: 0, False: 0}
         for many in range(len(every) + 1):
             for rest in itertools.combinations([fact for fact in every if fact not in some], many):
-                value = ("ends", (*rest, *some), tuple([(head, 3 if head[1] == "next" and head[0] == "F" else 2 if head == ("G", "next") else
-                                                        1 if head == ("H", "next") else 0) for head, _ in fall]))
+                value = ("ends", (*rest, *some), greater)
                 right = plain_rows.accepts_program(FGH, value)
                 found[right] += 1
                 self.assertIs(accepts_ends(FGH, value), right)
@@ -367,8 +377,10 @@ class Points118To125(unittest.TestCase):
     def test_wrong_facts(self):
         some, fall = ends_evidence(FGH)[1:]
         for value in (some[1:], (*some, some[0]), list(some), (*some[1:], list(some[0])), (*some[1:], ("F", "next", "F", False)),
-                      (*some, ("F", "next", "F", 1)), (*some, ("F", "zero", "F", 0)), (*some, ("F", "#", "F", 0)), (*some, ("F", "next", "K", 0)),
-                      (*some, ("F", "next", None, 0)), (*some, ("F", "next", ["F"], 0)), (*some, (["F"], "next", "F", 0)), (*some, ("F", ["next"], "F", 0)),
+                      (*some, ("F", "next", "F", 1)), (*some, ("F", "zero", "F", 0)), (*some, ("F", "#", "F", 0)),
+                      (*some, ("F", "next", "K", 0)),
+                      (*some, ("F", "next", None, 0)), (*some, ("F", "next", ["F"], 0)), (*some, (["F"], "next", "F", 0)),
+                      (*some, ("F", ["next"], "F", 0)),
                       (*some, ("F", "next", "F", -1)), (*some, ("F", "next", "F")), (*some, ("F", "next", "F", 0, 0)),
                       (*some, (("F", "next"), "F", 0)), (*some, ("F", "next", "F", "next")), (*some, None), None, ()):
             self.assertIs(accepts_ends(FGH, ("ends", value, fall)), False)
@@ -383,18 +395,24 @@ class Points118To125(unittest.TestCase):
         fact, ring = (("P", "one", "P", 0), (), ()), (("P", "two", "P", "two"), (), (0, 0))
         step, back = (("P", "two", "P", "one"), (), (0,)), (("P", "two", "P", "one"), (), ())
         self.assertIs(accepts_ends(P, ("endless", (fact, ring), (1,))), True)
-        for lines, numbers, right in (((fact, ring), (1, 1), True), ((fact, step, ring), (2,), True), ((fact, back, ring), (2,), True),
-                                      ((fact, ring), (0,), False), ((fact, ring), (), False), ((fact, ring), (2,), False), ((fact, ring), (True,), False),
-                                      ((fact, ring), [1], False), ((fact, step), (1,), False), ((ring, fact), (0,), False), ((ring,), (0,), False),
+        for lines, numbers, right in (((fact, ring), (1, 1), True), ((fact, step, ring), (2,), True),
+                                      ((fact, back, ring), (2,), True),
+                                      ((fact, ring), (0,), False), ((fact, ring), (), False), ((fact, ring), (2,), False),
+                                      ((fact, ring), (True,), False),
+                                      ((fact, ring), [1], False), ((fact, step), (1,), False), ((ring, fact), (0,), False),
+                                      ((ring,), (0,), False),
                                       ((fact, (ring[0], (), (0,))), (1,), False), ((fact, (ring[0], (), (0, 0, 0))), (1,), False),
-                                      ((fact, (ring[0], (0,), (0, 0))), (1,), False), ((fact, (ring[0], (), (False, 0))), (1,), False),
+                                      ((fact, (ring[0], (0,), (0, 0))), (1,), False),
+                                      ((fact, (ring[0], (), (False, 0))), (1,), False),
                                       ((fact, (ring[0], (), [0, 0])), (1,), False), ((fact, (ring[0], [], (0, 0))), (1,), False),
-                                      ((fact, list(ring)), (1,), False), ([fact, ring], (1,), False), ((fact, ring[:2]), (1,), False),
+                                      ((fact, list(ring)), (1,), False), ([fact, ring], (1,), False),
+                                      ((fact, ring[:2]), (1,), False),
                                       ((fact, (ring[0], (), (1, 0))), (1,), False), ((fact, (ring[0], (), (-1, 0))), (1,), False),
                                       ((fact, (("P", "two", "P", "end"), (), (0, 0))), (1,), False),
                                       ((fact, (("P", "two", "P", "#"), (), (0, 0))), (1,), False),
                                       ((fact, (list(ring[0]), (), (0, 0))), (1,), False), ((fact, ring, None), (1,), False),
-                                      (((("P", "one", "P", False), (), ()), ring), (1,), False), ((fact, step, (ring[0], (), (1, 0))), (2,), False),
+                                      (((("P", "one", "P", False), (), ()), ring), (1,), False),
+                                      ((fact, step, (ring[0], (), (1, 0))), (2,), False),
                                       (((("P", "two", "P", 0), (), ()), fact, (ring[0], (), (1, 1))), (2,), False),
                                       ((fact, ring, (("P", "two", "P", 0), (), (0, 0))), (1,), False)):
             self.assertIs(accepts_ends(P, ("endless", lines, numbers)), right)
@@ -405,11 +423,15 @@ class Points118To125(unittest.TestCase):
         away = (("P", "two", "P", "one"), (), ())
         for use, lines, numbers, way, right in (
                 (("P", two(("end",))), (fact, ring), (), (1,), True), (("P", one(two(("end",)))), (fact, ring), (0,), (1,), True),
-                (("P", one(one(two(("end",))))), (fact, ring), (0, 0), (1,), True), (("P", one(two(("end",)))), (fact, ring), (), (1,), False),
-                (("P", one(one(two(("end",))))), (fact, ring), (0,), (1,), False), (("P", two(("end",))), (fact, ring), (0,), (1,), False),
+                (("P", one(one(two(("end",))))), (fact, ring), (0, 0), (1,), True),
+                (("P", one(two(("end",)))), (fact, ring), (), (1,), False),
+                (("P", one(one(two(("end",))))), (fact, ring), (0,), (1,), False),
+                (("P", two(("end",))), (fact, ring), (0,), (1,), False),
                 (("P", two(("end",))), (fact, ring), (), (1, 1), True), (("P", two(("end",))), (fact, ring), (), (), False),
-                (("P", two(("end",))), (fact, ring, away), (), (1, 2), False), (("P", two(("end",))), (fact, ring, away), (), (2,), False),
-                (("P", two(("end",))), (fact, ring, away), (), (2, 1), False), (("P", two(("end",))), (fact, ring), (1,), (1,), False),
+                (("P", two(("end",))), (fact, ring, away), (), (1, 2), False),
+                (("P", two(("end",))), (fact, ring, away), (), (2,), False),
+                (("P", two(("end",))), (fact, ring, away), (), (2, 1), False),
+                (("P", two(("end",))), (fact, ring), (1,), (1,), False),
                 (("P", two(("end",))), (fact, ring), (), (0,), False), (("P", two(("end",))), (fact, ring), [], (1,), False),
                 (("P", two(("end",))), (fact, ring), (), [1], False), (("P", ("end",)), (fact, ring), (), (1,), False)):
             self.assertIs(accepts_rows(P, use, ("endless", lines, numbers, way)), right)
@@ -426,8 +448,10 @@ class Points118To125(unittest.TestCase):
         """Of several uses in a body the one for which the path stands."""
         generics = (("F", (0, 0), 0), ("G", (0,), 0))
         program = (NUMBERS, generics, (("F", (nxt(0), 1), ("F", 0, nxt(("G", nxt(0))))), ("G", (nxt(0),), ("G", nxt(0)))))
-        for path, claim, right in (((), ("F", "next", "F", 0), True), ((1, 0), ("F", "next", "F", 0), False), ((1, 0), ("F", "next", "G", "next"), True),
-                                   ((), ("F", "next", "G", "next"), False), ((1,), ("F", "next", "F", 0), False), ((1, False), ("F", "next", "G", "next"), False),
+        for path, claim, right in (((), ("F", "next", "F", 0), True), ((1, 0), ("F", "next", "F", 0), False),
+                                   ((1, 0), ("F", "next", "G", "next"), True),
+                                   ((), ("F", "next", "G", "next"), False), ((1,), ("F", "next", "F", 0), False),
+                                   ((1, False), ("F", "next", "G", "next"), False),
                                    ((True, 0), ("F", "next", "G", "next"), False), ((0,), ("F", "next", "F", 0), False)):
             lines = ((claim, path, ()), (("G", "next", "G", "next"), (), ()))
             self.assertIs(accepts_ends(program, ("endless", lines, (1,))), right)
@@ -436,11 +460,16 @@ class Points118To125(unittest.TestCase):
         some, fall = ends_evidence(FGH)[1:]
         use = ("F", number(2))
         for value in (*NOTHINGS, *deep_things()):
-            for evidence in (value, (value,), ("ends", value, fall), ("ends", (*some, value), fall), ("ends", some, value), ("ends", some, (*fall, value)),
-                             ("ends", value, value), ("ends", some, ((value, 0),)), ("ends", some, ((("F", value), 0),)), ("endless", value, (0,)),
-                             ("endless", (value,), (0,)), ("endless", (), value), ("endless", value, value), ("endless", value, value, value),
-                             ("endless", (), (), value), ("endless", (), value, (0,)), (value, some, fall), ("ends", some, ((value, value),)),
-                             ("endless", ((("F", "next", "G", "next"), value, ()),), (0,)), ("endless", ((("F", "next", "F", 0), (), value),), (0,)),
+            for evidence in (value, (value,), ("ends", value, fall), ("ends", (*some, value), fall), ("ends", some, value),
+                             ("ends", some, (*fall, value)),
+                             ("ends", value, value), ("ends", some, ((value, 0),)), ("ends", some, ((("F", value), 0),)),
+                             ("endless", value, (0,)),
+                             ("endless", (value,), (0,)), ("endless", (), value), ("endless", value, value),
+                             ("endless", value, value, value),
+                             ("endless", (), (), value), ("endless", (), value, (0,)), (value, some, fall),
+                             ("ends", some, ((value, value),)),
+                             ("endless", ((("F", "next", "G", "next"), value, ()),), (0,)),
+                             ("endless", ((("F", "next", "F", 0), (), value),), (0,)),
                              ("endless", ((value, (), ()),), (0,)), ("endless", (((value, "next", "G", "next"), (), ()),), (0,))):
                 if evidence not in (("ends", (*some, ()), fall),):
                     self.assertIs(accepts_ends(FGH, evidence), False)
@@ -463,7 +492,8 @@ class Points118To125(unittest.TestCase):
 
     def test_programs_that_are_not_flat(self):
         """Behind the arguments, and whatever is judged."""
-        for function in (facts, edges, ends_evidence, always_value, lambda p: accepts_ends(p, None), lambda p: following(p, "Half", ZERO),
+        for function in (facts, edges, ends_evidence, always_value, lambda p: accepts_ends(p, None),
+                         lambda p: following(p, "Half", ZERO),
                          lambda p: rows_evidence(p, ("Half", ZERO)), lambda p: accepts_rows(p, ("Half", ZERO), None)):
             not_possible(self, "flat", function, EXAMPLE)
         bad(self, "name", following, EXAMPLE, "K", ZERO)
@@ -471,7 +501,8 @@ class Points118To125(unittest.TestCase):
         bad(self, "use", rows_evidence, EXAMPLE, ("Half", 0))
         bad(self, "use", accepts_rows, EXAMPLE, ("Half", 0), None)
         generics = (("F", (0, 0), 0),)
-        for rows in ((("F", (0, 0), 0),), (("F", (0, 1), ("F", 1, 0)),), (("F", (0, 1), 0), ("F", (nxt(0), 1), ("F", ("F", 0, 0), 0)))):
+        for rows in ((("F", (0, 0), 0),), (("F", (0, 1), ("F", 1, 0)),),
+                     (("F", (0, 1), 0), ("F", (nxt(0), 1), ("F", ("F", 0, 0), 0)))):
             not_possible(self, "flat", facts, (NUMBERS, generics, rows))
         self.assertEqual(facts((NUMBERS, generics, (("F", (0, 1), ("F", 0, ("F", ZERO, 1))),))), ())
 
@@ -493,7 +524,8 @@ class Points118To125(unittest.TestCase):
         self.assertIs(accepts_ends(program, told), True)
         use = ("D", ("pc", ("#", 0), ("#", 0)), ("#", 0))
         self.assertIs(accepts_rows(program, use, rows_evidence(program, use)), True)
-        without = (signature, generics, (*[(*row[:2], four(0, 1)) for row in rows[::2]], *[(*row[:2], four(1, 0)) for row in rows[1::2]]))
+        without = (signature, generics, (*[(*row[:2], four(0, 1)) for row in rows[::2]],
+                                         *[(*row[:2], four(1, 0)) for row in rows[1::2]]))
         self.assertEqual((len(facts(without)), edges(without)), (64, ()))
         self.assertEqual(ends_evidence(without)[0], "ends")
         long = chain("next", 59, ZERO)

@@ -28,7 +28,8 @@ class Points86To88(unittest.TestCase):
         right = wrong = 0
         for dice, program in some_programs(120, 86):
             self.assertIs(is_program(program), True)
-            for value in (*much_changed(program, dice, 8), *[(program[0], program[1], new) for new in much_changed(program[2], dice, 8)]):
+            others = [(program[0], program[1], new) for new in much_changed(program[2], dice, 8)]
+            for value in (*much_changed(program, dice, 8), *others):
                 told = is_program(value)
                 self.assertIs(told, plain_programs.is_program(value))
                 right += told
@@ -40,12 +41,14 @@ class Points86To88(unittest.TestCase):
             return is_program((NUMBERS, generics, ()))
         for name in ("A", "Z", "Ab", "Abcdefgh", "Zz"):
             self.assertIs(judge((name, (0,), 0)), True)
-        for name in ("", "a", "AB", "Abcdefghi", "A1", "1", "A ", "A\n", "Add\n", "\u00c4", "A\u00e4", None, 0, True, ("A",), ["A"], b"A", "#"):
+        for name in ("", "a", "AB", "Abcdefghi", "A1", "1", "A ", "A\n", "Add\n", "\u00c4", "A\u00e4", None, 0, True, ("A",),
+                     ["A"], b"A", "#"):
             self.assertIs(judge((name, (0,), 0)), False)
         for kinds, right in (((0,), True), ((0, 1, 0), True), ((), False), ((0, 0, 0, 0), False), ((2,), False), ((-1,), False),
                              ((True,), False), ([0], False), (0, False), (None, False), ((None,), False), (((0,),), False)):
             self.assertIs(judge(("A", kinds, 0)), right)
-        for kind, right in ((0, True), (1, True), (2, False), (-1, False), (True, False), (None, False), ((0,), False), ("0", False)):
+        for kind, right in ((0, True), (1, True), (2, False), (-1, False), (True, False), (None, False), ((0,), False),
+                            ("0", False)):
             self.assertIs(judge(("A", (0,), kind)), right)
         for generic in (["A", (0,), 0], ("A", (0,)), ("A", (0,), 0, 0), None, (), "A"):
             self.assertIs(judge(generic), False)
@@ -57,7 +60,8 @@ class Points86To88(unittest.TestCase):
 
     def test_numbers_of_definitions(self):
         generics = (("A", (0,), 0), ("B", (0,), 0))
-        for one, other, right in ((0, 0, True), (12, 4, True), (4, 12, True), (8, 8, True), (12, 5, False), (13, 0, False), (0, 13, False),
+        for one, other, right in ((0, 0, True), (12, 4, True), (4, 12, True), (8, 8, True), (12, 5, False), (13, 0, False),
+                                  (0, 13, False),
                                   (9, 8, False)):
             rows = (*some_definitions("A", one), *some_definitions("B", other))
             self.assertEqual(len(rows), one + other)
@@ -75,8 +79,10 @@ class Points86To88(unittest.TestCase):
             return is_program((NUMBERS, (("A", (0, 1), 0), ("B", (0,), 1)), (definition,)))
         for body in (0, ZERO, nxt(0), ("A", 0, 1), ("A", 0, ("B", 0)), ("A", ("A", nxt(0), 1), ("box", 0)), nxt(("A", ZERO, 1))):
             self.assertIs(judge("A", (0, 1), body), True)
-        for body in (1, 2, -1, True, False, None, "zero", ("zero", 0), ("next",), ("next", 1), ("box", 0), ("B", 0), ("A", 0), ("A", 1, 0),
-                     ("A", 0, 1, 1), ("A",), ("A", 0, ("B", 1)), ("C", 0), ["next", 0], nxt([0]), ("#", 0), nxt(("#", 0)), (), (0,), ("a", 0),
+        for body in (1, 2, -1, True, False, None, "zero", ("zero", 0), ("next",), ("next", 1), ("box", 0), ("B", 0), ("A", 0),
+                     ("A", 1, 0),
+                     ("A", 0, 1, 1), ("A",), ("A", 0, ("B", 1)), ("C", 0), ["next", 0], nxt([0]), ("#", 0), nxt(("#", 0)), (),
+                     (0,), ("a", 0),
                      ("Add", 0, 1), ("A", 0, ("#", 0)), ((), 0), (None, 0), nxt(True)):
             self.assertIs(judge("A", (0, 1), body), False)
         for pattern in ((0,), (0, 1, 2), [0, 1], (1, 0), (0, 0), (0, True), (("A", 0, 1), 2), (("#", 0), 0), None, (0, ("zero",))):
@@ -94,14 +100,16 @@ class Points86To88(unittest.TestCase):
             self.assertIs(is_program((NUMBERS, one, (("A", (chain("next", many, 0),), 0),))), right)
             self.assertIs(is_program((NUMBERS, one, (("A", (0,), chain("next", many, 0)),))), right)
             self.assertIs(is_program((NUMBERS, one, (("A", (0,), chain("A", many, ZERO)),))), right)
-            self.assertIs(is_program((NUMBERS, one, (("A", (0,), chain("A", many // 2, chain("next", many - many // 2, 0))),))), right)
+            self.assertIs(is_program((NUMBERS, one, (("A", (0,), chain("A", many // 2, chain("next", many - many // 2, 0))),))),
+                          right)
         wide = (("open", (("int", ()), ("pair", (0, 0)))),)
         body = ("pair", ("pair", ("pair", 0, 0), ("pair", 0, 0)), ("pair", 0, 0))
         self.assertIs(is_program((wide, one, (("A", (0,), body),))), True)
         self.assertIs(is_program((wide, one, (("A", (0,), ("pair", body, 0)),))), False)
 
     def test_other_values(self):
-        for value in (*NOTHINGS, *deep_things(), list(PLUS), (NUMBERS, ADD), (*PLUS, ()), (list(NUMBERS), *PLUS[1:]), (NUMBERS, (), ()),
+        for value in (*NOTHINGS, *deep_things(), list(PLUS), (NUMBERS, ADD), (*PLUS, ()), (list(NUMBERS), *PLUS[1:]),
+                      (NUMBERS, (), ()),
                       (NUMBERS, ADD, None), (None, ADD, ())):
             self.assertIs(is_program(value), False)
         for value in deep_things():
@@ -120,15 +128,18 @@ class Point89(unittest.TestCase):
     def test_uses(self):
         for use in (("Add", ZERO, ZERO), ("Add", number(59), number(59)), ("Add", nxt(ZERO), ZERO)):
             self.assertIs(is_use(PLUS, use), True)
-        for use in (*NOTHINGS, *deep_things(), ("Add", ZERO), ("Add", ZERO, ZERO, ZERO), ("Add", number(60), ZERO), ("Add", ZERO, number(60)),
+        for use in (*NOTHINGS, *deep_things(), ("Add", ZERO), ("Add", ZERO, ZERO, ZERO), ("Add", number(60), ZERO),
+                    ("Add", ZERO, number(60)),
                     ["Add", ZERO, ZERO], ("Add", 0, 1), ("Add", ZERO, ("#", 0)), ("Add", ZERO, ("Add", ZERO, ZERO)), ("Half", ZERO),
-                    ("Add", ZERO, ("box", ZERO)), ("Add", ZERO, ["zero"]), (ZERO, ZERO), (None, ZERO, ZERO), "Add", ("add", ZERO, ZERO)):
+                    ("Add", ZERO, ("box", ZERO)), ("Add", ZERO, ["zero"]), (ZERO, ZERO), (None, ZERO, ZERO), "Add",
+                    ("add", ZERO, ZERO)):
             self.assertIs(is_use(PLUS, use), False)
         for value in deep_things():
             self.assertIs(is_use(PLUS, ("Add", ZERO, value)), False)
             self.assertIs(is_use(PLUS, (value, ZERO, ZERO)), False)
         opened = (TYPES, (("A", (0,), 0),), ())
-        for use, right in ((("A", ("#", 3)), True), (("A", ("ptr", ("#", 10 ** 30))), True), (("A", ("#", -1)), False), (("A", ("#", True)), False)):
+        for use, right in ((("A", ("#", 3)), True), (("A", ("ptr", ("#", 10 ** 30))), True), (("A", ("#", -1)), False),
+                           (("A", ("#", True)), False)):
             self.assertIs(is_use(opened, use), right)
 
     def test_choices_and_steps_as_the_points_read(self):
@@ -230,7 +241,8 @@ class Point92(unittest.TestCase):
     def test_patterns(self):
         two = (("open", (("pair", (0, 0)),)),)
         generics = (("A", (0, 0), 0),)
-        for pattern, flat in (((0, 1), True), ((("pair", 0, 1), 2), True), ((("pair", 0, 0), 1), False), ((("pair", 0, 1), 1), False),
+        for pattern, flat in (((0, 1), True), ((("pair", 0, 1), 2), True), ((("pair", 0, 0), 1), False),
+                              ((("pair", 0, 1), 1), False),
                               ((0, 0), False), ((0, ("pair", 1, 2)), False), ((("pair", ("pair", 0, 1), 2), 3), False),
                               ((("pair", 0, ("pair", 1, 2)), 3), False)):
             self.assertEqual(first_unflat((two, generics, (("A", pattern, 0),))), None if flat else (0, None))
@@ -238,12 +250,15 @@ class Point92(unittest.TestCase):
     def test_uses(self):
         generics = (("A", (0, 0), 0),)
         for pattern, body, told in (((nxt(0), 1), ("A", 0, 1), None), ((nxt(0), 1), ("A", 1, 0), (0, ())),
-                                    ((nxt(0), 1), ("A", nxt(nxt(0)), ("A", 0, 1)), None), ((nxt(0), 1), ("A", ("A", 0, 0), 0), (0, ())),
-                                    ((nxt(0), 1), nxt(("A", ZERO, ("A", nxt(1), 0))), (0, (0, 1))), ((0, 1), ("A", nxt(0), 1), None),
+                                    ((nxt(0), 1), ("A", nxt(nxt(0)), ("A", 0, 1)), None),
+                                    ((nxt(0), 1), ("A", ("A", 0, 0), 0), (0, ())),
+                                    ((nxt(0), 1), nxt(("A", ZERO, ("A", nxt(1), 0))), (0, (0, 1))),
+                                    ((0, 1), ("A", nxt(0), 1), None),
                                     ((0, 1), ("A", ZERO, ("A", 0, ("A", 0, 1))), None), ((ZERO, 0), ("A", 0, 0), (0, ())),
                                     ((nxt(0), 1), ("A", nxt(("A", 0, 0)), 0), (0, ())),
                                     # The first one that is listed, not the first one from the left.
-                                    ((nxt(0), 1), ("A", 1, ("A", 1, 0)), (0, (1,))), ((nxt(0), 1), ("A", ("A", 1, 0), 0), (0, (0,)))):
+                                    ((nxt(0), 1), ("A", 1, ("A", 1, 0)), (0, (1,))),
+                                    ((nxt(0), 1), ("A", ("A", 1, 0), 0), (0, (0,)))):
             self.assertEqual(first_unflat((NUMBERS, generics, (("A", pattern, body),))), told)
 
     def test_the_first_definition(self):

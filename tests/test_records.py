@@ -101,7 +101,8 @@ class Points98To101(unittest.TestCase):
     def test_two(self):
         """The trail is without the last use; the patterns are those that the choice names."""
         generics = (("A", (0,), 0), ("B", (0, 0), 0))
-        program = (NUMBERS, generics, (("A", (0,), nxt(("B", 0, nxt(0)))), ("B", (0, 1), 0), ("B", (0, nxt(1)), 0), ("B", (nxt(0), 1), 1),
+        program = (NUMBERS, generics, (("A", (0,), nxt(("B", 0, nxt(0)))), ("B", (0, 1), 0), ("B", (0, nxt(1)), 0),
+                                       ("B", (nxt(0), 1), 1),
                                        ("B", (nxt(0), nxt(nxt(1))), 1)))
         told = comes_to(program, ("A", nxt(ZERO)))
         self.assertEqual(chosen(program, ("B", number(1), number(2))), 4)
@@ -227,10 +228,12 @@ class Points102To105(unittest.TestCase):
         for many in range(4):
             self.assertIs(are_rows(EXAMPLE, rows[:many]), True)
         use, pattern, value = rows[1]
-        for row in (list(rows[1]), (use, pattern), (*rows[1], 0), (use, (ZERO, 0), value), (use, (0, 1), value), (use, (nxt(1), 0), value),
+        for row in (list(rows[1]), (use, pattern), (*rows[1], 0), (use, (ZERO, 0), value), (use, (0, 1), value),
+                    (use, (nxt(1), 0), value),
                     (use, [nxt(0), 1], value), (use, pattern, number(3)), (use, pattern, 0), (use, pattern, ("Add", ZERO, ZERO)),
                     (use, pattern, nxt(("Add", ZERO, number(1)))), (use, pattern, None), (None, pattern, value), (use, None, value),
-                    (list(use), pattern, value), (use, (nxt(False), 1), value), (use, (nxt(0), True), value), (("Add", ZERO), pattern, value),
+                    (list(use), pattern, value), (use, (nxt(False), 1), value), (use, (nxt(0), True), value),
+                    (("Add", ZERO), pattern, value),
                     (("Half", number(1)), (ZERO,), ZERO), (("Pick", number(1), number(1)), (0, nxt(ZERO)), number(1)),
                     (("Sum", number(1), number(1)), pattern, value), (use, pattern, ["next", number(1)])):
             self.assertIs(are_rows(EXAMPLE, (rows[0], row)), False)
@@ -295,11 +298,14 @@ class Points102To105(unittest.TestCase):
     def test_trails(self):
         use = ("Pick", ZERO, ZERO)
         told = done_evidence(EXAMPLE, use)
-        self.assertEqual(told, ("none", ((("Add", ZERO, number(1)), (ZERO, 0), number(1)),), ((use, (ZERO, 0)),), ("Half", number(1))))
+        self.assertEqual(told, ("none", ((("Add", ZERO, number(1)), (ZERO, 0), number(1)),), ((use, (ZERO, 0)),),
+                                ("Half", number(1))))
         _, rows, trail, last = told
-        for value in (("none", rows, (), last), ("none", (), trail, last), ("none", rows, trail, use), ("none", rows, trail * 2, last),
+        for value in (("none", rows, (), last), ("none", (), trail, last), ("none", rows, trail, use),
+                      ("none", rows, trail * 2, last),
                       ("none", rows, (list(trail[0]),), last), ("none", rows, list(trail), last), ("none", list(rows), trail, last),
-                      ("none", rows, ((use, (0, nxt(ZERO))),), last), ("none", rows, ((use,),), last), ("none", rows, ((last, (ZERO, 0)),), last),
+                      ("none", rows, ((use, (0, nxt(ZERO))),), last), ("none", rows, ((use,),), last),
+                      ("none", rows, ((last, (ZERO, 0)),), last),
                       ("none", rows, trail, ("Half", number(2))), ("none", rows, trail, ("Add", ZERO, number(1))),
                       ("none", rows, trail, list(last)), ("none", rows, trail, None), ("round", rows, trail, last), ("value", rows),
                       ("none", rows, trail), ("none", rows, trail, last, 0), ["none", *told[1:]], ("None", *told[1:]),
@@ -335,7 +341,8 @@ class Points102To105(unittest.TestCase):
 
     def test_rounds(self):
         generics = (("A", (0,), 0),)
-        program = (NUMBERS, generics, (("A", (nxt(nxt(0)),), ("A", nxt(0))), ("A", (nxt(ZERO),), ("A", ZERO)), ("A", (ZERO,), ("A", nxt(ZERO)))))
+        program = (NUMBERS, generics, (("A", (nxt(nxt(0)),), ("A", nxt(0))), ("A", (nxt(ZERO),), ("A", ZERO)),
+                                       ("A", (ZERO,), ("A", nxt(ZERO)))))
         _, rows, trail, last = done_evidence(program, ("A", number(3)))
         self.assertIs(accepts_done(program, ("A", number(3)), ("round", rows, trail, last)), True)
         longer = (*trail, trail[2])
@@ -347,9 +354,11 @@ class Points102To105(unittest.TestCase):
         use = ("Pick", ZERO, ZERO)
         _, rows, trail, last = done_evidence(EXAMPLE, use)
         for value in (*NOTHINGS, *deep_things()):
-            for evidence in (value, (value,), ("value", value), ("value", (value,)), ("none", value, trail, last), ("none", (value,), trail, last),
+            for evidence in (value, (value,), ("value", value), ("value", (value,)), ("none", value, trail, last),
+                             ("none", (value,), trail, last),
                              ("none", rows, value, last), ("none", rows, (value,), last), ("none", rows, ((use, value),), last),
-                             ("none", rows, ((value, (ZERO, 0)),), last), ("none", rows, trail, value), ("none", rows, trail, ("Half", value)),
+                             ("none", rows, ((value, (ZERO, 0)),), last), ("none", rows, trail, value),
+                             ("none", rows, trail, ("Half", value)),
                              (value, rows, trail, last), ("two", rows, trail, last, value, value), ("round", rows, value, use),
                              ("round", value, value, value), ("two", value, value, value, value, value)):
                 self.assertIs(accepts_done(EXAMPLE, use, evidence), False)

@@ -118,7 +118,8 @@ class Points94And95(unittest.TestCase):
                     if told[0] == "stuck":
                         stuck.append((at, path))
                         self.check_stuck(program, at, path, told)
-                    for value in (*much_changed(told, dice, 5), ("sound", *told[1:]), ("stuck", *told[1:]), ("sound", ("by", 0), ())):
+                    for value in (*much_changed(told, dice, 5), ("sound", *told[1:]), ("stuck", *told[1:]),
+                                  ("sound", ("by", 0), ())):
                         accepted = is_use_evidence(program, at, path, value)
                         self.assertIs(accepted, plain_programs.accepts_use(program, at, path, value))
                         self.assertTrue(not accepted or value[0] == told[0])
@@ -185,7 +186,8 @@ class Points94And95(unittest.TestCase):
 
     def test_rows_of_somebody_else(self):
         generics = (("F", (0,), 0), ("G", (0, 0), 0))
-        program = (NUMBERS, generics, (("F", (0,), ("G", 0, 0)), ("F", (nxt(0),), ZERO), ("G", (nxt(0), 1), 0), ("G", (0, nxt(1)), 1),
+        program = (NUMBERS, generics, (("F", (0,), ("G", 0, 0)), ("F", (nxt(0),), ZERO), ("G", (nxt(0), 1), 0),
+                                       ("G", (0, nxt(1)), 1),
                                        ("G", (ZERO, ZERO), ZERO)))
         top, by = ("split", 0, (("by", 3), ("by", 0))), ("by", 0)
         other = ("split", 0, (by, by))
@@ -203,7 +205,8 @@ class Points94And95(unittest.TestCase):
 
     def test_values_of_somebody_else(self):
         generics = (("F", (0, 0), 0), ("G", (0, 0), 0))
-        program = (NUMBERS, generics, (("F", (0, nxt(1)), ("G", 0, nxt(("F", 0, 1)))), ("F", (ZERO, 0), 0), ("G", (nxt(0), nxt(0)), 0)))
+        program = (NUMBERS, generics, (("F", (0, nxt(1)), ("G", 0, nxt(("F", 0, 1)))), ("F", (ZERO, 0), 0),
+                                       ("G", (nxt(0), nxt(0)), 0)))
         one, two = number(1), number(2)
         for values, others, right in (((one, one), (one,), True), ((one, two), (two,), True), ((one, one), (ZERO,), False),
                                       ((ZERO, one), (one,), False), ((one, ZERO), (one,), False), ((one,), (one,), False),
@@ -234,7 +237,8 @@ class Points94And95(unittest.TestCase):
         for program, at in ((SPECIAL, 1), (WITHOUT, 1)):
             for value in (*NOTHINGS, *deep_things()):
                 for evidence in (value, (value,), ("sound", value, ()), ("sound", ("split", 0, (("by", 0), ("by", 1))), (value,)),
-                                 ("stuck", value, ()), ("stuck", (value,), ()), ("stuck", (nxt(ZERO),), value), (value, value, value),
+                                 ("stuck", value, ()), ("stuck", (value,), ()), ("stuck", (nxt(ZERO),), value),
+                                 (value, value, value),
                                  ("sound", value, value), ("stuck", (ZERO,), (value,))):
                     self.assertIs(is_use_evidence(program, at, (), evidence), False)
 
@@ -259,7 +263,8 @@ class Point96(unittest.TestCase):
                 bad(self, "program", function, program, None, None)
             for at in (*deep_things(), None, True, False, -1, 3, "0", (0,), [0], 10 ** 30):
                 bad(self, "number", function, SPECIAL, at, None)
-            for path in (*[value for value in NOTHINGS if value != ()], *deep_things(), [], [0], (0,), (-1,), (True,), (0, 0), ("0",), 0):
+            for path in (*[value for value in NOTHINGS if value != ()], *deep_things(), [], [0], (0,), (-1,), (True,), (0, 0),
+                         ("0",), 0):
                 bad(self, "path", function, SPECIAL, 1, path)
             # The body is no use, or what stands there is none.
             bad(self, "path", function, SPECIAL, 2, ())
@@ -284,7 +289,8 @@ class Point96(unittest.TestCase):
         program = large_fits(3, (INT, 0))
         too_large(self, "terms", use_evidence, program, 0, ())
         too_large(self, "terms", stuck_uses, program)
-        for evidence in (("sound", ("by", 2), ((1, 2, ("by", 1)),)), ("sound", ("by", 2), ()), ("sound", ("by", 2), ((0, 1, ("by", 2)),))):
+        for evidence in (("sound", ("by", 2), ((1, 2, ("by", 1)),)), ("sound", ("by", 2), ()),
+                         ("sound", ("by", 2), ((0, 1, ("by", 2)),))):
             self.assertIs(is_use_evidence(program, 0, (), evidence), False)
 
     def test_the_meet_with_the_joint_case_is_large(self):

@@ -117,7 +117,8 @@ class Points127To129(unittest.TestCase):
         self.assertEqual([at_use(program, ((1, 0),), at) for at in range(3)], ["falls", "neither", "falls"])
         self.assertEqual([at_use(program, ((0, 1),), at) for at in range(3)], ["neither", "falls", "holds"])
         # A variable that stands twice on both sides.
-        program = (TYPES, (("F", (0,), 0),), (("F", (("pair", 0, 0),), ("F", ("pair", 0, 0))), ("F", (("ptr", 0),), ("F", ("pair", 0, 0)))))
+        program = (TYPES, (("F", (0,), 0),), (("F", (("pair", 0, 0),), ("F", ("pair", 0, 0))),
+                                              ("F", (("ptr", 0),), ("F", ("pair", 0, 0)))))
         self.assertEqual([at_use(program, ((1,),), at) for at in range(2)], ["holds", "neither"])
         self.assertEqual([at_use(program, ((0,),), at) for at in range(2)], ["holds", "holds"])
 
@@ -204,7 +205,8 @@ class Points131To133(unittest.TestCase):
     def test_weights_of_somebody_else(self):
         for weights, right in ((((2, 1),), True), (((1, 0),), True), (((1, 1),), False), (((10 ** 50, 10 ** 50 - 1),), True),
                                (((1,),), False), (((1, 0, 0),), False), (((1, 0), (1, 0)), False), ((), False), ((1, 0), False),
-                               ([(1, 0)], False), (([1, 0],), False), (((True, False),), False), (((True, 0),), False), (((1, -1),), False),
+                               ([(1, 0)], False), (([1, 0],), False), (((True, False),), False), (((True, 0),), False),
+                               (((1, -1),), False),
                                (((2, None),), False), ((("1", 0),), False), (None, False)):
             self.assertIs(accepts_weights(PLUS, ("weights", weights)), right)
         self.assertIs(accepts_weights(PLUS, ["weights", ((1, 0),)]), False)
@@ -222,11 +224,13 @@ class Points131To133(unittest.TestCase):
         for mix, accepted in ((((0, (0,)), (1, (0, 0)), (0, (0, 0))), True), (((0, (0,)), (10 ** 40, (0, 0)), (0, (0, 0))), True),
                               (((1, (0,)), (0, (0, 0)), (0, (0, 0))), False), (((1, (1,)), (0, (0, 0)), (0, (0, 0))), False),
                               (((0, (0,)), (1, (5, 5)), (0, (0, 0))), True), (((0, (0,)), (1, (0, 0)), (1, (0, 0))), False),
-                              (((0, (0,)), (1, (0,)), (0, (0, 0))), False), (((0, (0,)), (1, (0, 0))), False), (((0, (0,)), (True, (0, 0)), (0, (0, 0))), False),
+                              (((0, (0,)), (1, (0,)), (0, (0, 0))), False), (((0, (0,)), (1, (0, 0))), False),
+                              (((0, (0,)), (True, (0, 0)), (0, (0, 0))), False),
                               (((0, (0,)), (1, (0, False)), (0, (0, 0))), False), (((0, (0,)), (1, (0, -1)), (0, (0, 0))), False),
                               (((0, (0,)), (1, [0, 0]), (0, (0, 0))), False), ([(0, (0,)), (1, (0, 0)), (0, (0, 0))], False),
                               (((0, (0,)), [1, (0, 0)], (0, (0, 0))), False), (((0, (0,)), (1, (0, 0), 0), (0, (0, 0))), False),
-                              (((0, (0,)), (-1, (0, 0)), (1, (0, 0))), False), (((0, (0,)), None, (0, (0, 0))), False), (None, False)):
+                              (((0, (0,)), (-1, (0, 0)), (1, (0, 0))), False), (((0, (0,)), None, (0, (0, 0))), False),
+                              (None, False)):
             self.assertIs(accepts_weights(ACK, ("mix", mix)), accepted)
         # Of UP one use adds a place, and the two others take two away: twice the first one and once each of them.
         for counts, accepted in (((2, 1, 1), True), ((3, 1, 1), False), ((1, 1, 1), False), ((0, 0, 0), False)):
@@ -245,15 +249,19 @@ class Points131To133(unittest.TestCase):
             self.assertIs(accepts_weights(program, ("mix", ())), False)
             self.assertEqual(layers_evidence(program), ("layers", (), ()))
             self.assertEqual(layer_numbers(program), ())
-            for value, right in ((("layers", (), ()), True), (("layers", (), ((((0, 0),), ()),)), False), (("stuck", (), (), ()), False)):
+            for value, right in ((("layers", (), ()), True), (("layers", (), ((((0, 0),), ()),)), False),
+                                 (("stuck", (), (), ()), False)):
                 self.assertIs(accepts_layers(program, value), right)
 
     def test_whatever_is_judged(self):
         for program in (PLUS, ACK, EMPTY):
             for value in (*NOTHINGS, *deep_things()):
-                for evidence in (value, (value,), ("weights", value), ("mix", value), ("weights", (value,)), ("weights", ((value, 0),)),
-                                 ("mix", (value,)), ("mix", (value,) * 3), ("mix", ((0, (0,)), (value, (0, 0)), (0, (0, 0)))[:2]), (value, ((1, 0),)),
-                                 ("mix", ((0, (0,)), (1, value), (0, (0, 0)))), ("mix", ((value, (0, 0)),)), ("weights", ((1, value),))):
+                for evidence in (value, (value,), ("weights", value), ("mix", value), ("weights", (value,)),
+                                 ("weights", ((value, 0),)),
+                                 ("mix", (value,)), ("mix", (value,) * 3), ("mix", ((0, (0,)), (value, (0, 0)), (0, (0, 0)))[:2]),
+                                 (value, ((1, 0),)),
+                                 ("mix", ((0, (0,)), (1, value), (0, (0, 0)))), ("mix", ((value, (0, 0)),)),
+                                 ("weights", ((1, value),))):
                     right = plain_weights.accepts_weights(program, evidence) if is_shallow(evidence) else False
                     self.assertIs(accepts_weights(program, evidence), right)
 
@@ -338,16 +346,21 @@ class Points134And135(unittest.TestCase):
         mix, none = ((0, (0,)), (1, (0, 0)), (0, (0, 0))), ((0, (0,)), (0, (0, 0)), (0, (0, 0)))
         first, second = (((1, 0),), mix), (((0, 1),), none)
         self.assertIs(accepts_layers(ACK, ("layers", (0, 1, 0), (first, second))), True)
-        for layers, right in (((first, (((3, 5),), none)), True), (((((9, 0),), ((0, (0,)), (7, (2, 0)), (0, (0, 0)))), second), True),
-                              ((first,), False), ((second, first), False), ((first, second, second), False), (([*first], second), False),
+        for layers, right in (((first, (((3, 5),), none)), True),
+                              (((((9, 0),), ((0, (0,)), (7, (2, 0)), (0, (0, 0)))), second), True),
+                              ((first,), False), ((second, first), False), ((first, second, second), False),
+                              (([*first], second), False),
                               ([first, second], False), ((first, (((0, 1),), mix)), False), (((((1, 1),), mix), second), False),
-                              (((((1, 0),), none), second), False), ((first, (((0, 0),), none)), False), ((first, (((0, 1),),)), False),
+                              (((((1, 0),), none), second), False), ((first, (((0, 0),), none)), False),
+                              ((first, (((0, 1),),)), False),
                               ((first, (((0, True),), none)), False), ((first, None), False), (None, False), ((), False)):
             self.assertIs(accepts_layers(ACK, ("layers", (0, 1, 0), layers)), right)
-        for numbers in ((0, 0, 0), (1, 1, 0), (0, 1, 1), (0, 2, 0), (0, True, 0), (False, 1, False), [0, 1, 0], (0, 1), (0, 1, 0, 0), (0, None, 0),
+        for numbers in ((0, 0, 0), (1, 1, 0), (0, 1, 1), (0, 2, 0), (0, True, 0), (False, 1, False), [0, 1, 0], (0, 1),
+                        (0, 1, 0, 0), (0, None, 0),
                         (0, -1, 0), (0, "1", 0), None, (None,) * 3):
             self.assertIs(accepts_layers(ACK, ("layers", numbers, (first, second))), False)
-        for value in (("layers", (0, 1, 0), (first, second), none), ["layers", (0, 1, 0), (first, second)], ("stuck", (0, 1, 0), (first, second), none),
+        for value in (("layers", (0, 1, 0), (first, second), none), ["layers", (0, 1, 0), (first, second)],
+                      ("stuck", (0, 1, 0), (first, second), none),
                       ("layers", (0, 1, 0)), ("Layers", (0, 1, 0), (first, second)), ("stuck", (0, None, 0), (first,), mix),
                       ("stuck", (0, None, 0), (first,), none)):
             self.assertIs(accepts_layers(ACK, value), False)
@@ -358,7 +371,8 @@ class Points134And135(unittest.TestCase):
         program = (NUMBERS, generics, (("F", (nxt(0), nxt(1)), ("F", 0, 1)), ("F", (nxt(0), ZERO), ("F", 0, ZERO))))
         self.assertEqual(layer_numbers(program), (0, 0))
         later = ((0, (0, 0)), (1, (0,)))
-        self.assertIs(accepts_layers(program, ("layers", (0, 1), ((((0, 1),), later), (((1, 0),), ((0, (0, 0)), (0, (0,))))))), False)
+        self.assertIs(accepts_layers(program, ("layers", (0, 1), ((((0, 1),), later), (((1, 0),), ((0, (0, 0)), (0, (0,))))))),
+                      False)
 
     def test_stuck(self):
         told = layers_evidence(UP)
@@ -369,10 +383,14 @@ class Points134And135(unittest.TestCase):
         mix, last = ((0, (0,)), (1, (0,))), ((0, (0,)), (2, (1,)))
         weights = ((1,), (0,))
         self.assertIs(accepts_layers(program, ("stuck", (0, None), ((weights, mix),), last)), True)
-        for value in (("stuck", (0, None), ((weights, mix),), ((1, (0,)), (2, (1,)))), ("stuck", (0, None), ((weights, mix),), ((0, (0,)), (0, (0,)))),
-                      ("stuck", (0, None), ((weights, mix),), ((0, (1,)), (2, (1,)))), ("stuck", (0, None), (), last), ("stuck", (None, None), (), last),
-                      ("stuck", (0, None), ((weights, ((0, (0,)), (0, (0,)))),), last), ("stuck", (0, None), ((((1,), (1,)), mix),), last),
-                      ("stuck", (0, None), ((weights, mix),)), ("layers", (0, None), ((weights, mix),)), ("stuck", (0, None), ((weights, mix),) * 2, last)):
+        for value in (("stuck", (0, None), ((weights, mix),), ((1, (0,)), (2, (1,)))),
+                      ("stuck", (0, None), ((weights, mix),), ((0, (0,)), (0, (0,)))),
+                      ("stuck", (0, None), ((weights, mix),), ((0, (1,)), (2, (1,)))), ("stuck", (0, None), (), last),
+                      ("stuck", (None, None), (), last),
+                      ("stuck", (0, None), ((weights, ((0, (0,)), (0, (0,)))),), last),
+                      ("stuck", (0, None), ((((1,), (1,)), mix),), last),
+                      ("stuck", (0, None), ((weights, mix),)), ("layers", (0, None), ((weights, mix),)),
+                      ("stuck", (0, None), ((weights, mix),) * 2, last)):
             self.assertIs(accepts_layers(program, value), False)
 
     def test_awaited_parameters_are_free_again(self):
@@ -389,7 +407,8 @@ class Points134And135(unittest.TestCase):
         generics = (("F", (0, 0, 0), 0),)
         grown = nxt(nxt(0))
         program = (NUMBERS, generics, (("F", (nxt(0), 1, 2), ("F", 0, ("F", 0, 1, 2), ("F", 0, 1, 2))),
-                                       ("F", (0, nxt(1), 2), ("F", 0, 1, nxt(("F", 0, 1, 2)))), ("F", (0, 1, nxt(2)), ("F", 0, 1, 2))))
+                                       ("F", (0, nxt(1), 2), ("F", 0, 1, nxt(("F", 0, 1, 2)))),
+                                       ("F", (0, 1, nxt(2)), ("F", 0, 1, 2))))
         self.assertEqual(plain_weights.uses(program), uses_in_bodies(program))
         self.assertEqual(layer_numbers(program), (0, 0, 0, 1, 1, 2))
         self.assertEqual(layers_evidence(program)[0], "layers")
@@ -425,10 +444,13 @@ class Points134And135(unittest.TestCase):
         mix, none = ((0, (0,)), (1, (0, 0)), (0, (0, 0))), ((0, (0,)), (0, (0, 0)), (0, (0, 0)))
         first, second = (((1, 0),), mix), (((0, 1),), none)
         for value in (*NOTHINGS, *deep_things()):
-            for evidence in (value, (value,), ("layers", value, (first, second)), ("layers", (0, 1, 0), value), ("layers", (0, 1, 0), (first, value)),
+            for evidence in (value, (value,), ("layers", value, (first, second)), ("layers", (0, 1, 0), value),
+                             ("layers", (0, 1, 0), (first, value)),
                              ("layers", (0, 1, 0), ((value, mix), second)), ("layers", (0, 1, 0), ((((1, 0),), value), second)),
-                             ("layers", (value, value, value), (first, second)), ("stuck", value, value, value), ("stuck", (None,) * 3, (), value),
-                             ("stuck", (value, None, value), (), mix), (value, (0, 1, 0), (first, second)), ("layers", (0, 1, 0), (first, second), value)):
+                             ("layers", (value, value, value), (first, second)), ("stuck", value, value, value),
+                             ("stuck", (None,) * 3, (), value),
+                             ("stuck", (value, None, value), (), mix), (value, (0, 1, 0), (first, second)),
+                             ("layers", (0, 1, 0), (first, second), value)):
                 self.assertIs(accepts_layers(ACK, evidence), False)
 
 
@@ -439,10 +461,12 @@ class Point136(unittest.TestCase):
         for function in calls:
             for program in (*NOTHINGS, *deep_things(), list(PLUS), (NUMBERS, (), ())):
                 bad(self, "program", function, program)
-        for weights in (*NOTHINGS, *deep_things(), ((1,),), ((1, 0, 0),), ((1, 0), (1, 0)), [(1, 0)], ([1, 0],), ((1, -1),), ((True, 0),), ((1, None),)):
+        for weights in (*NOTHINGS, *deep_things(), ((1,),), ((1, 0, 0),), ((1, 0), (1, 0)), [(1, 0)], ([1, 0],), ((1, -1),),
+                        ((True, 0),), ((1, None),)):
             bad(self, "weights", measure, PLUS, weights, None)
             bad(self, "weights", at_use, PLUS, weights, None)
-        for use in (*NOTHINGS, *deep_things(), ("Plus", ZERO), ("Plus", number(60), ZERO), ["Plus", ZERO, ZERO], ("Plus", 0, 1), ("Ack", ZERO, ZERO)):
+        for use in (*NOTHINGS, *deep_things(), ("Plus", ZERO), ("Plus", number(60), ZERO), ["Plus", ZERO, ZERO], ("Plus", 0, 1),
+                    ("Ack", ZERO, ZERO)):
             bad(self, "use", measure, PLUS, ((1, 0),), use)
         for at in (*deep_things(), None, True, False, -1, 1, "0", (0,), [0], 10 ** 30):
             bad(self, "number", at_use, PLUS, ((1, 0),), at)
