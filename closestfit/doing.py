@@ -73,3 +73,13 @@ class Doing:
         """The trail and the last use, and behind "two" the two patterns."""
         trail = tuple([(self._use(use), self._pattern(number)) for use, number in self.trail])
         return (trail, self._use(self.last), *[self._pattern(number) for number in self.trouble[1:]])
+
+    def told_evidence(self):
+        """The told evidence about the use."""
+        if self.trouble:
+            return (self.trouble[0], self.told_rows(), *self.told_trouble())
+        return ("value", self.told_rows())
+
+    def numbers_on_way(self):
+        """The numbers of the definitions that the uses in the rows and in the trail choose."""
+        return [number for _, number in (*self.order, *self.trail)]

@@ -8,10 +8,7 @@ from closestfit.rows import read_rows, shows_done
 def done_evidence(program, use):
     """The told evidence about the use."""
     found = wanted_program(program)
-    doing = Doing(found, wanted_use(found, use))
-    if doing.trouble:
-        return (doing.trouble[0], doing.told_rows(), *doing.told_trouble())
-    return ("value", doing.told_rows())
+    return Doing(found, wanted_use(found, use)).told_evidence()
 
 
 def accepts_done(program, use, value):

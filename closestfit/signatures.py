@@ -2,6 +2,10 @@
 
 from closestfit.forms import is_index, is_tuple_of
 
+MOST_KINDS = 3
+MOST_CONSTRUCTORS = 4
+MOST_PARTS = 2
+
 
 def is_name(value):
     if not isinstance(value, str) or not 2 <= len(value) <= 8:
@@ -11,7 +15,7 @@ def is_name(value):
 
 def are_parts(value, many):
     """Whether the value is a tuple of at most two of so many kinds."""
-    return is_tuple_of(value, 0, 2) and all(is_index(kind, many) for kind in value)
+    return is_tuple_of(value, 0, MOST_PARTS) and all(is_index(kind, many) for kind in value)
 
 
 def is_constructor(value, many):
@@ -24,7 +28,7 @@ def is_kind_form(value, many):
     how, constructors = value
     if not isinstance(how, str) or how not in ("closed", "open"):
         return False
-    if not is_tuple_of(constructors, 0, 4):
+    if not is_tuple_of(constructors, 0, MOST_CONSTRUCTORS):
         return False
     return all(is_constructor(constructor, many) for constructor in constructors)
 
@@ -40,7 +44,7 @@ def kinds_with_values(signature):
 
 
 def is_signature_form(value):
-    if not is_tuple_of(value, 1, 3):
+    if not is_tuple_of(value, 1, MOST_KINDS):
         return False
     many = len(value)
     if not all(is_kind_form(kind, many) for kind in value):

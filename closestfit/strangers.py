@@ -4,9 +4,7 @@ from closestfit.checks import MOST_PLACES, want_kinds, wanted_shapes, wanted_val
 from closestfit.errors import BadValue, NotPossible, TooLarge
 from closestfit.flat import arity, read_value, written
 from closestfit.forms import is_index, is_natural, is_tuple_of
-from closestfit.signatures import are_parts, is_name
-
-MOST_CONSTRUCTORS = 4
+from closestfit.signatures import MOST_CONSTRUCTORS, are_parts, is_name
 
 
 def joined(rows_of_values):
