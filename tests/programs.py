@@ -2,8 +2,9 @@
 
 import random
 
+from closestfit.clear import is_ever_chosen
 from closestfit.programs import is_program
-from tests import plain, plain_cases
+from tests import plain, plain_cases, plain_units
 from tests.makers import some_pattern
 from tests.samples import NUMBERS, TYPES, some_signatures
 
@@ -191,3 +192,100 @@ def lessened(program, kind, known, pattern, dice):
             rest[0] = dice.choice(fitting)
         return (term[0], *rest)
     return lower(body)
+
+
+# Programs with modules.
+
+def some_modules(program, dice, most=5):
+    """Modules of the program."""
+    while True:
+        many = dice.randint(1, most)
+        often = dice.choice((0.3, 0.6, 0.8))
+        back = dice.choice((0.0, 0.03, 0.2))
+        imports = tuple(tuple(far for far in range(many) if far != near and dice.random() < (often if far < near else back))
+                        for near in range(many))
+        modules = placed(program, imports, dice)
+        if modules is not None:
+            return modules
+
+
+def placed(program, imports, dice):
+    """Modules with these imports in which each thing is somewhere where it can be, or None."""
+    signature, generics, definitions = program
+    reach = [plain_units.reach(imports, (module,)) for module in range(len(imports))]
+    of_kind = {kind: min(dice.randrange(len(imports)) for _ in range(2)) for kind, (how, _) in enumerate(signature)
+               if how == "closed"}
+
+    def fitting(wanted):
+        return [module for module in range(len(imports)) if set(wanted) <= reach[module]]
+
+    def kinds_wanted(kinds):
+        return [of_kind[kind] for kind in kinds if kind in of_kind]
+    of_name = {}
+    for kind, (_, row) in enumerate(signature):
+        for name, parts in row:
+            right = fitting(kinds_wanted(parts))
+            if not right or kind in of_kind and of_kind[kind] not in right:
+                return None
+            of_name[name] = of_kind[kind] if kind in of_kind else dice.choice(right)
+    for name, kinds, kind in generics:
+        right = fitting(kinds_wanted((*kinds, kind)))
+        if not right:
+            return None
+        of_name[name] = min(dice.choice(right) for _ in range(2))
+    found = []
+    orderly = dice.random() < 0.6
+    for number, (name, pattern, body) in enumerate(definitions):
+        right = fitting([of_name[own] for own in {name} | plain_units.names((*pattern, body))])
+        if not right:
+            return None
+        near = [module for module in right if any(module in reach[of_name[own]] for own in {name} | plain_units.names(pattern))]
+        if orderly and is_chosen(program, number):
+            right = near or right
+        found.append(max(dice.choice(right) for _ in range(3)))
+    constructors = tuple(tuple(of_name[name] for name, _ in row) for _, row in signature)
+    return imports, constructors, tuple(of_name[name] for name, _, _ in generics), tuple(found)
+
+
+def is_chosen(program, number):
+    """Whether the pattern of the definition is ever chosen, as far as that can be told."""
+    name = program[2][number][0]
+    table = [row[1] for row in program[2] if row[0] == name]
+    kinds = [kinds for own, kinds, _ in program[1] if own == name][0]
+    return is_ever_chosen(program[0], kinds, tuple(table), table.index(program[2][number][1]))
+
+
+def some_spread_programs(many, seed, **more):
+    """Triples of dice, program and modules of it."""
+    for at, (dice, program) in enumerate(some_programs(many, seed, **more)):
+        if at % 3 == 0:
+            program = lively_program(dice)
+        elif at % 3 == 1:
+            program = crowded_program(program, dice)
+        yield dice, program, some_modules(program, dice)
+
+
+def crowded_program(program, dice):
+    """The program with some of its patterns split, or made smaller, so that some are never chosen."""
+    signature, generics, definitions = program
+    found = list(definitions)
+    for name, pattern, body in definitions:
+        kinds = [kinds for own, kinds, _ in generics if own == name][0]
+        standing = plain_cases.kinds_of_variables(signature, kinds, pattern)
+        closed = [variable for variable, kind in standing.items() if signature[kind][0] == "closed"]
+        if closed and dice.random() < 0.8:
+            for part in plain_cases.split(signature, kinds, pattern, dice.choice(closed)):
+                known = plain_cases.kinds_of_variables(signature, kinds, plain_cases.numbered(part))
+                kind = [kind for own, _, kind in generics if own == name][0]
+                new = some_body((signature, generics if dice.random() < 0.3 else ()), kind, known, dice, 4)
+                if new is not None:
+                    found.append((name, plain_cases.numbered(part), new))
+    kept = []
+    for name, pattern, body in found:
+        if plain_cases.size(pattern) <= 12 and (name, pattern) not in [row[:2] for row in kept]:
+            if sum(row[0] == name for row in kept) < 8:
+                kept.append((name, pattern, body))
+    dice.shuffle(kept)
+    crowded = (signature, generics, tuple(kept[:16]))
+    assert is_program(crowded), crowded
+    return crowded

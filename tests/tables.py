@@ -95,3 +95,28 @@ def boxed_pigeons(special):
 # With these the tree for the meet of the first two patterns has 300 leaves, with the further one more.
 SPECIAL = (("xa", "wa"), ("xb", "wb"), ("xc", "wd"))
 MORE_SPECIAL = (*SPECIAL, ("xa", "wb", "wa"))
+
+
+# The next tables have patterns of at most twelve places, so they can be tables of generics.
+
+LETTERS = (("closed", (("la", ()), ("lb", ()))), ("closed", (("wa", (1,)), ("wb", (1,)), ("wc", (1,)), ("wn", ()))),
+           ("closed", (("pp", (0, 0)),)))
+LETTER_KINDS = (2, 2, 1)
+PIGEONS = ((("pp", 0, 0), 1, 2), (("pp", 0, 1), ("pp", 0, 2), 3), (("pp", 0, 1), ("pp", 1, 2), 3))
+# The tree by which these cover the case (0, 1, 2) has so many leaves.
+LEAVES = {
+    300: (*PIGEONS, (0, 1, chain("wa", 8, ("wn",))), (0, 1, ("wb", chain("wa", 7, ("wn",)))),
+          (0, ("pp", ("lb",), ("la",)), ("wb", chain("wa", 3, ("wn",)))), (("pp", 0, ("lb",)), 1, ("wa", ("wn",))),
+          (("pp", 0, 1), ("pp", ("lb",), 2), chain("wa", 4, ("wn",))), (("pp", 0, 1), 2, chain("wa", 4, ("wn",)))),
+    301: (*PIGEONS, (0, 1, chain("wa", 8, ("wn",))), (("pp", 0, 0), ("pp", ("la",), ("la",)), ("wb", chain("wa", 3, ("wn",)))),
+          (0, ("pp", ("lb",), ("la",)), chain("wa", 2, 1))),
+}
+
+HEAPS = (("closed", (("fork", (0, 0)), ("deep", (1, 1)), ("wrap", (0,)))), ("closed", (("bb", (2, 2)),)), ("closed", (("cc", ()),)))
+
+
+def great_heaps(wraps):
+    """A table whose pattern 0 is chosen at told values of 399 places and one for each wrap."""
+    steps = ("LLL", "LLR", "LRL", "LRR", "RLL", "RLR", "RRL", "RRR")
+    paths = [fork_path(step + "L", ("deep", 100, 101)) for step in steps] + [fork_path("RRRR", ("deep", 100, 101))]
+    return HEAPS, (0, 0), ((chain("wrap", wraps, ("fork", 0, 0)), 0), *[plain_cases.numbered((0, path)) for path in paths])
