@@ -93,3 +93,10 @@ def some_signatures(many, seed):
         if is_signature(signature):
             found.append(signature)
     return found
+
+
+def text_error(case, column, words, function, *arguments):
+    from closestfit.errors import TextError
+    with case.assertRaises(TextError) as caught:
+        function(*arguments)
+    case.assertEqual((caught.exception.column, caught.exception.words), (column, words))
