@@ -196,6 +196,13 @@ class Points152To154(unittest.TestCase):
         # No module is without the definition, so nothing is left of the signature.
         self.assertIs(accepts_bare(program, modules, ("all", rows)), False)
 
+    def test_a_row_says_nothing_of_what_is_chosen(self):
+        """Evidence of point 67 that the pattern is chosen is no row."""
+        rows = (("reached", (0,)), ("reached", (0,)))
+        for row in (("chosen", (STAR,)), ("chosen", (ptr(STAR),)), ("never", (STAR,)), ("never", ("by", 0))):
+            self.assertIs(accepts_units(WHOLE, SPREAD, ("all", (*rows, row))), False)
+            self.assertIs(accepts_bare(WHOLE, SPREAD, ("all", (*rows, row))), False)
+
     def test_up_to_the_first_one_that_is_chosen(self):
         """Later definitions are not looked at: neither for another use, nor for what raises TooLarge."""
         generics = (("F", (0,), 0), ("G", (0,), 0))
@@ -341,6 +348,17 @@ class Points155To157(unittest.TestCase):
             self.assertIs(is_modules(program, modules), True)
             self.assertIs(accepts_bare(program, modules, ("all", (("empty", (0,)),))), right)
             self.assertEqual(bare_evidence(program, modules)[0], "all" if right else "some")
+
+    def test_no_tree_where_a_variable_is_of_an_empty_kind(self):
+        signature = (("open", ()), NUMBERS[0][:1] + ((("zero", ()), ("next", (1,))),))
+        program = (signature, (("F", (0, 1), 1),), (("F", (0, 1), 1), ("F", (0, ZERO), ZERO), ("F", (0, nxt(1)), 1)))
+        modules = (((), (0,)), ((), (0, 0)), (0,), (1, 0, 0))
+        self.assertIs(is_modules(program, modules), True)
+        never, rest = ("never", ("split", 1, (("by", 1), ("by", 2)))), (("reached", (0,)), ("reached", (0,)))
+        self.assertEqual(units_evidence(program, modules), ("all", (never, *rest)))
+        self.assertEqual(bare_evidence(program, modules), ("all", (("empty", (0,)), *rest)))
+        self.assertIs(accepts_bare(program, modules, ("all", (never, *rest))), False)
+        self.assertIs(accepts_units(program, modules, ("all", (("empty", (0,)), *rest))), False)
 
     def test_covered_over_the_cut_signature_alone(self):
         """With the numbers of the whole table, where a pattern with another constructor stands ahead."""

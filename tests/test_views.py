@@ -64,15 +64,22 @@ def near_table(signature, kinds, table, dice):
 
 
 def settled_pair(signature, kinds, table, dice):
-    """Two tables, one of which has a pattern more that it mostly never chooses, as its parts stand there, too."""
-    s = some_table(signature, kinds, dice, 1, 3)[0]
-    standing = plain_cases.kinds_of_variables(signature, kinds, s)
-    closed = [variable for variable, kind in standing.items() if not plain.is_open(signature, kind)]
-    if not closed:
+    """Two tables with lone patterns that they mostly never choose, as the parts of these stand in both."""
+    base, lone = list(table[:2]), []
+    for _ in range(2):
+        s = some_table(signature, kinds, dice, 1, 3)[0]
+        standing = plain_cases.kinds_of_variables(signature, kinds, s)
+        closed = [variable for variable, kind in standing.items() if not plain.is_open(signature, kind)]
+        if closed:
+            parts = [plain_cases.numbered(part) for part in plain_cases.split(signature, kinds, s, dice.choice(closed))]
+            base += [part for part in parts if plain_cases.size(part) <= 16]
+            lone.append(s)
+    base = list(dict.fromkeys(base))
+    if not lone:
         return table, near_table(signature, kinds, table, dice)
-    parts = [plain_cases.numbered(part) for part in plain_cases.split(signature, kinds, s, dice.choice(closed))]
-    base = list(dict.fromkeys([*table[:3], *[part for part in parts if plain_cases.size(part) <= 16]]))
-    one, other = [*base, *([s] if s not in base else [])], list(base)
+    one, other = [list(dict.fromkeys((*base, s)))[:12] for s in (lone[0], lone[-1])]
+    if dice.random() < 0.4:
+        other = base[:12]
     dice.shuffle(one)
     dice.shuffle(other)
     return (tuple(one), tuple(other)) if dice.random() < 0.5 else (tuple(other), tuple(one))
@@ -318,9 +325,12 @@ class Points139To146(unittest.TestCase):
         other = (one[2], one[0], one[1])
         self.assertEqual(choice_of(TYPES, BOTH, one, values), choice_of(TYPES, BOTH, other, values))
         self.assertIs(accepts_alike_in(TYPES, BOTH, one, other, (0, 1), ("unlike", values, ("two", 0, 1), ("two", 0, 1))), False)
-        # A pattern below two of three: the numbers that are named differ.
-        more = ((ptr(0), 1), (0, ptr(1)), (ptr(0), 0))
-        self.assertIs(alike_in(TYPES, BOTH, more, more[::-1], (0, 1)), True)
+        # With a pattern ahead that does not match there, other numbers are named.
+        more = ((INT, 0), *one)
+        self.assertEqual((choice_of(TYPES, BOTH, one, values), choice_of(TYPES, BOTH, more, values)), (("two", 0, 1), ("two", 1, 2)))
+        self.assertIs(alike_in(TYPES, BOTH, one, more, (ptr(0), 1)), True)
+        value = ("unlike", values, ("two", 0, 1), ("two", 1, 2))
+        self.assertIs(accepts_alike_in(TYPES, BOTH, one, more, (ptr(0), 1), value), False)
 
     def test_lone_patterns_that_do_not_meet_the_case(self):
         one, other = ((ptr(0), 1), (INT, 0)), ((INT, 0), (("pair", 0, 1), 2))
