@@ -22,7 +22,8 @@ BODY     = VARIABLE | CONSTRUCTOR [ "(" BODY { "," BODY } ")" ] | GENERIC "(" BO
 USE      = GENERIC "(" VALUE { "," VALUE } ")" END
 VALUE    = "#" NUMBER | CONSTRUCTOR [ "(" VALUE { "," VALUE } ")" ]
 '''
-LEAVES = {"VARIABLE": "a variable", "CONSTRUCTOR": "a constructor", "GENERIC": "a generic", "NUMBER": "a number", "END": "the end"}
+LEAVES = {"VARIABLE": "a variable", "CONSTRUCTOR": "a constructor", "GENERIC": "a generic", "NUMBER": "a number",
+          "END": "the end"}
 
 
 class Problem(Exception):
@@ -51,7 +52,7 @@ def scan(text):
 
 
 def grammar():
-    """For each name what it stands for: nested tuples of ("alt", ..), ("seq", ..), ("opt", x), ("many", x), ("word", w), ("name", n)."""
+    """For each name what it stands for: nested pairs with one of the words alt, seq, opt, many, word, name."""
     found = {}
     for line in GRAMMAR.strip().split("\n"):
         name, _, rest = line.partition(" = ")

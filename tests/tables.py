@@ -119,11 +119,13 @@ QUARRELS = {
           (("pp", 0, 1), ("pp", 1, 2), chain("wa", 3, ("wb", chain("wa", 1, ("wn",))))),
           (("pp", 0, 1), ("pp", 0, ("la",)), ("wb", chain("wa", 2, ("wb", ("wn",)))))),
     301: ((("pp", 0, 1), 2, 3), (0, ("pp", 1, 2), 3), *PAIRS, (("pp", 0, 1), ("pp", 2, 3), chain("wa", 4, ("wb", ("wn",)))),
-          (("pp", 0, 1), ("pp", 2, 3), chain("wa", 3, chain("wb", 2, 4))), (("pp", 0, ("lb",)), ("pp", 1, ("lb",)), ("wa", ("wb", ("wn",)))),
+          (("pp", 0, 1), ("pp", 2, 3), chain("wa", 3, chain("wb", 2, 4))),
+          (("pp", 0, ("lb",)), ("pp", 1, ("lb",)), ("wa", ("wb", ("wn",)))),
           (("pp", 0, 1), ("pp", 0, 2), chain("wb", 2, chain("wa", 2, ("wn",))))),
 }
 
-HEAPS = (("closed", (("fork", (0, 0)), ("deep", (1, 1)), ("wrap", (0,)))), ("closed", (("bb", (2, 2)),)), ("closed", (("cc", ()),)))
+HEAPS = (("closed", (("fork", (0, 0)), ("deep", (1, 1)), ("wrap", (0,)))), ("closed", (("bb", (2, 2)),)),
+         ("closed", (("cc", ()),)))
 
 
 def great_heaps(wraps):

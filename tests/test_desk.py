@@ -74,7 +74,8 @@ def some_desks(many, seed):
         if dice.random() < 0.5:
             pool = dice.sample(pool, min(len(pool), 7))
         desk, plain_desk = Desk(signature, generics), PlainDesk(signature, generics)
-        uses = quarrelling_uses(programs[0], pool, dice) + [fitting_use(programs[0], dice) if dice.random() < 0.7 else small_use(programs[0], dice) for _ in range(9)]
+        uses = quarrelling_uses(programs[0], pool, dice)
+        uses += [(fitting_use if dice.random() < 0.7 else small_use)(programs[0], dice) for _ in range(9)]
         for _ in range(dice.randint(4, 22)):
             yield dice, desk, plain_desk, some_command(plain_desk, pool, uses, dice)
 
@@ -110,7 +111,9 @@ def variations(program, dice):
 
 def are_crossing(one, other):
     """Whether two patterns meet and none of them is below the other one."""
-    return plain_cases.meet(one, other) is not None and not plain_cases.is_below(one, other) and not plain_cases.is_below(other, one)
+    if plain_cases.meet(one, other) is None:
+        return False
+    return not plain_cases.is_below(one, other) and not plain_cases.is_below(other, one)
 
 
 def some_command(desk, pool, uses, dice):
@@ -121,7 +124,8 @@ def some_command(desk, pool, uses, dice):
     if way < 0.4 and pool:
         return ("define", dice.choice(pool))
     if way < 0.7:
-        fitting = [use for use in uses for near, far in itertools.combinations(desk.program[2], 2) if are_crossing(near[1], far[1])
+        fitting = [use for use in uses for near, far in itertools.combinations(desk.program[2], 2)
+                   if are_crossing(near[1], far[1])
                    and all(row[0] == use[0] and plain_cases.match(row[1], use[1:]) is not None for row in (near, far))]
         return ("ask", dice.choice(fitting or uses))
     if desk.program[2] and dice.random() < 0.9:
@@ -157,7 +161,8 @@ class Point174(unittest.TestCase):
 
     def test_the_order_of_definitions_and_of_uses(self):
         uses = (("Add", ZERO, ZERO), ("Add", number(2), ZERO), ("Add", ZERO, number(1)))
-        desk = desk_with(NUMBERS, GENERICS, ("define", NEXT), ("ask", uses[1]), ("define", FIRST), ("ask", uses[0]), ("ask", uses[2]))
+        desk = desk_with(NUMBERS, GENERICS, ("define", NEXT), ("ask", uses[1]), ("define", FIRST), ("ask", uses[0]),
+                         ("ask", uses[2]))
         self.assertEqual(desk.program(), (NUMBERS, GENERICS, (NEXT, FIRST)))
         self.assertEqual(desk.asked(), (uses[1], uses[0], uses[2]))
         desk.act(("drop", "Add", NEXT[1]))
@@ -284,18 +289,26 @@ class Point175(unittest.TestCase):
     def test_wrong_commands(self):
         desk = desk_with(NUMBERS, GENERICS, ("define", FIRST), ("ask", ONE_AND_ZERO))
         before = state(desk)
-        wrongs = (("define", None), ("define",), ("define", FIRST, ()), ("define", list(FIRST)), ("define", ("Add", FIRST[1])), ("define", ("Sub", *FIRST[1:])),
-                  ("define", ("Add", (ZERO,), ZERO)), ("define", ("Add", (0, 1), 2)), ("define", ("Add", (1, 0), 0)), ("define", ("Add", (0, True), 0)),
+        wrongs = (("define", None), ("define",), ("define", FIRST, ()), ("define", list(FIRST)), ("define", ("Add", FIRST[1])),
+                  ("define", ("Sub", *FIRST[1:])),
+                  ("define", ("Add", (ZERO,), ZERO)), ("define", ("Add", (0, 1), 2)), ("define", ("Add", (1, 0), 0)),
+                  ("define", ("Add", (0, True), 0)),
                   ("define", ("Add", (chain("next", 11, ZERO), 0), 0)), ("define", ("Add", (0, 1), chain("next", 12, 0))),
-                  ("define", ("Add", (0, 1), ("Sub", 0))), ["define", FIRST], ("Define", FIRST), ("ask", FIRST), ("ask",), ("ask", ONE_AND_ZERO, 0),
-                  ("ask", list(ONE_AND_ZERO)), ("ask", ("Add", ZERO)), ("ask", ("Add", 0, ZERO)), ("ask", ("Add", ("#", 0), ZERO)), ["ask", ONE_AND_ZERO],
-                  ("ask", ("Add", number(60), ZERO)), ("drop", "Add"), ("drop", "Sub", FIRST[1]), ("drop", "Add", list(FIRST[1])), ("drop", "Add", (ZERO,)),
-                  ("drop", "Add", (1, 0)), ("drop", "Add", (chain("next", 15, 0), 1)), ("drop", None, FIRST[1]), ("drop", ("Add",), FIRST[1]),
-                  ("drop", "Add", FIRST[1], FIRST[2]), ("drop", FIRST), (True, FIRST), ((), ()), ("undo",), "ask", ("drop", "Add", (True, 0)))
+                  ("define", ("Add", (0, 1), ("Sub", 0))), ["define", FIRST], ("Define", FIRST), ("ask", FIRST), ("ask",),
+                  ("ask", ONE_AND_ZERO, 0),
+                  ("ask", list(ONE_AND_ZERO)), ("ask", ("Add", ZERO)), ("ask", ("Add", 0, ZERO)),
+                  ("ask", ("Add", ("#", 0), ZERO)), ["ask", ONE_AND_ZERO],
+                  ("ask", ("Add", number(60), ZERO)), ("drop", "Add"), ("drop", "Sub", FIRST[1]), ("drop", "Add", list(FIRST[1])),
+                  ("drop", "Add", (ZERO,)),
+                  ("drop", "Add", (1, 0)), ("drop", "Add", (chain("next", 15, 0), 1)), ("drop", None, FIRST[1]),
+                  ("drop", ("Add",), FIRST[1]),
+                  ("drop", "Add", FIRST[1], FIRST[2]), ("drop", FIRST), (True, FIRST), ((), ()), ("undo",), "ask",
+                  ("drop", "Add", (True, 0)))
         for wrong in (*wrongs, *NOTHINGS, *deep_things()):
             bad(self, "command", desk.act, wrong)
         for thing in deep_things():
-            for wrong in (("define", thing), ("ask", thing), ("drop", "Add", thing), ("drop", thing, thing), ("define", ("Add", thing, 0)),
+            for wrong in (("define", thing), ("ask", thing), ("drop", "Add", thing), ("drop", thing, thing),
+                          ("define", ("Add", thing, 0)),
                           ("define", ("Add", (0, 1), thing)), ("ask", ("Add", thing, ZERO)), (thing, FIRST)):
                 bad(self, "command", desk.act, wrong)
         self.assertEqual(state(desk), before)
@@ -334,7 +347,8 @@ class Point176(unittest.TestCase):
         too_large(self, "rows", two.act, define("F", (0, 1), ("F", 0, ("ptr", 1))))
 
     def test_reasons_come_before_too_large(self):
-        desk = desk_with(TYPES, (("F", (0,), 0),), ("define", ("F", (0,), ("F", ("ptr", 0)))), ("define", ("F", (INT,), INT)), ("ask", ("F", INT)))
+        desk = desk_with(TYPES, (("F", (0,), 0),), ("define", ("F", (0,), ("F", ("ptr", 0)))), ("define", ("F", (INT,), INT)),
+                         ("ask", ("F", INT)))
         not_possible(self, "alike", desk.act, ("define", ("F", (0,), 0)))
         not_possible(self, "missing", desk.act, ("drop", "F", (("ptr", 0),)))
         not_possible(self, "asked", desk.act, ("ask", ("F", INT)))
@@ -348,9 +362,12 @@ class Point176(unittest.TestCase):
         """Behind each of the three commands."""
         zero, one, two = [("Add", number(many), ZERO) for many in range(3)]
         desk = Desk(NUMBERS, GENERICS)
-        for command, right in ((("ask", two), (two,)), (("ask", zero), (zero,)), (("define", FIRST), (zero,)), (("ask", one), (one,)),
-                               (("define", NEXT), (two, one)), (("define", BOTH), (two, zero, one)), (("drop", "Add", FIRST[1]), ()),
-                               (("drop", "Add", NEXT[1]), (two, one)), (("drop", "Add", BOTH[1]), (zero,)), (("define", OTHER), (two, zero, one))):
+        for command, right in ((("ask", two), (two,)), (("ask", zero), (zero,)), (("define", FIRST), (zero,)),
+                               (("ask", one), (one,)),
+                               (("define", NEXT), (two, one)), (("define", BOTH), (two, zero, one)),
+                               (("drop", "Add", FIRST[1]), ()),
+                               (("drop", "Add", NEXT[1]), (two, one)), (("drop", "Add", BOTH[1]), (zero,)),
+                               (("define", OTHER), (two, zero, one))):
             self.assertEqual(desk.act(command), right, command)
         self.assertEqual(desk.answer(two), ("value", number(2)))
 
@@ -534,7 +551,8 @@ class Point181(unittest.TestCase):
         generics = (("F", (0, 0, 0), 0),)
         rows = [("F", (nxt(0), 1, 2), 0), ("F", (0, nxt(1), 2), 0), ("F", (0, 1, nxt(2)), 0)]
         use = ("F", nxt(ZERO), nxt(ZERO), nxt(ZERO))
-        desk = desk_with(NUMBERS, generics, *[("define", row) for row in rows], ("ask", use), ("drop", "F", rows[0][1]), ("define", rows[0]))
+        desk = desk_with(NUMBERS, generics, *[("define", row) for row in rows], ("ask", use), ("drop", "F", rows[0][1]),
+                         ("define", rows[0]))
         kept = desk.evidence(use)
         self.assertEqual(kept[4:], (rows[1][1], rows[2][1]))
         desk.act(("drop", "F", rows[1][1]))
@@ -582,7 +600,8 @@ class Point183(unittest.TestCase):
         none, value = ("none", (), (), ONE_AND_ZERO), done_evidence(desk.program(), ONE_AND_ZERO)
         none_of_zero = ("none", (), (), zero)
         behind = ("none", (), ((ONE_AND_ZERO, NEXT[1]),), zero)
-        self.assertEqual(desk.records(), ((commands[0], ((0, none),)), (commands[1], ((1, none_of_zero),)), (commands[2], ((0, behind),)),
+        self.assertEqual(desk.records(), ((commands[0], ((0, none),)), (commands[1], ((1, none_of_zero),)),
+                                          (commands[2], ((0, behind),)),
                                           (commands[3], ((0, value), (1, done_evidence(desk.program(), zero))))))
         self.assertIs(are_right(NUMBERS, GENERICS, desk.records()), True)
 
@@ -648,14 +667,17 @@ class Point185(unittest.TestCase):
             bad(self, "signature", Desk, wrong, None)
             bad(self, "signature", Desk, wrong, GENERICS)
             bad(self, "generics", Desk, NUMBERS, wrong)
-        for wrong in ((("Add", (0, 0), 0),) * 2, (("Add", (0, 2), 0),), (("Add", (0,), 2),), (("add", (0,), 0),), (("Add", (), 0),), (("Add", (0,) * 4, 0),),
-                      (("Add", [0], 0),), (["Add", (0,), 0],), (("Add", (True,), 0),), (("Add", (0,), False),), (("Abcdefghi", (0,), 0),),
+        for wrong in ((("Add", (0, 0), 0),) * 2, (("Add", (0, 2), 0),), (("Add", (0,), 2),), (("add", (0,), 0),),
+                      (("Add", (), 0),), (("Add", (0,) * 4, 0),),
+                      (("Add", [0], 0),), (["Add", (0,), 0],), (("Add", (True,), 0),), (("Add", (0,), False),),
+                      (("Abcdefghi", (0,), 0),),
                       tuple((name, (0,), 0) for name in "ABCDE"), (("Add", (0,)),), [("Add", (0,), 0)]):
             bad(self, "generics", Desk, NUMBERS, wrong)
 
     def test_uses(self):
         desk = desk_with(NUMBERS, GENERICS, ("define", FIRST), ("ask", ONE_AND_ZERO))
-        for wrong in (*NOTHINGS, *deep_things(), ("Add", ZERO), ("Add", ZERO, 0), ("Sub", ZERO, ZERO), list(ONE_AND_ZERO), ("Add", ("#", 0), ZERO),
+        for wrong in (*NOTHINGS, *deep_things(), ("Add", ZERO), ("Add", ZERO, 0), ("Sub", ZERO, ZERO), list(ONE_AND_ZERO),
+                      ("Add", ("#", 0), ZERO),
                       ("Add", number(60), ZERO), ("Add", ZERO, ZERO, ZERO)):
             bad(self, "use", desk.answer, wrong)
             bad(self, "use", desk.evidence, wrong)
@@ -668,7 +690,8 @@ class Point185(unittest.TestCase):
     def test_what_is_told_is_of_tuples(self):
         """Points 2 and 3."""
         desk = desk_with(NUMBERS, GENERICS, ("define", FIRST), ("ask", ONE_AND_ZERO))
-        for found in (desk.program(), desk.asked(), desk.journal(), desk.records(), desk.answer(ONE_AND_ZERO), desk.evidence(ONE_AND_ZERO)):
+        for found in (desk.program(), desk.asked(), desk.journal(), desk.records(), desk.answer(ONE_AND_ZERO),
+                      desk.evidence(ONE_AND_ZERO)):
             self.assertIsInstance(found, tuple)
         self.assertIsInstance(desk.act(("define", NEXT)), tuple)
 

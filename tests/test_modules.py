@@ -38,9 +38,12 @@ class Points150And151(unittest.TestCase):
         self.assertIs(is_modules((TYPES, (("F", (0,), 0),), ()), (((),), ((0, 0, 0),), (0,), ())), True)
 
     def test_imports(self):
-        for imports, right in ((((), (0,), (0,), (0, 1, 2)), True), (((), (0,), (0, 1), (2, 1)), False), (((), (0,), (0, 2), (1, 2)), False),
-                               (((), (0,), (0,), (1, 1)), False), (((), (0,), (0,), (1, 2, 4)), False), (((), (0,), (0,), (1, True, 2)), False),
-                               (((), (0,), (0,), [1, 2]), False), ([(), (0,), (0,), (1, 2)], False), (((), (0,), (-1, 0), (1, 2)), False),
+        for imports, right in ((((), (0,), (0,), (0, 1, 2)), True), (((), (0,), (0, 1), (2, 1)), False),
+                               (((), (0,), (0, 2), (1, 2)), False),
+                               (((), (0,), (0,), (1, 1)), False), (((), (0,), (0,), (1, 2, 4)), False),
+                               (((), (0,), (0,), (1, True, 2)), False),
+                               (((), (0,), (0,), [1, 2]), False), ([(), (0,), (0,), (1, 2)], False),
+                               (((), (0,), (-1, 0), (1, 2)), False),
                                (((0,), (0,), (0,), (1, 2)), False), (None, False), (((), (0,), (0,), None), False),
                                # In a ring.
                                (((3,), (0,), (0,), (1, 2)), True), (((1,), (2,), (3,), (0,)), True),
@@ -51,29 +54,38 @@ class Points150And151(unittest.TestCase):
         self.assertIs(is_modules(PROGRAM, with_part(0, ((), (False,), (0,), (1, 2)))), False)
 
     def test_constructors(self):
-        for places, right in ((((0, 0), (1, 1), (2, 1, 3)), True), (((0, 0), (1, 1), (2, 3, 3)), True), (((0, 0), (1, 1), (0, 1, 1)), True),
+        for places, right in ((((0, 0), (1, 1), (2, 1, 3)), True), (((0, 0), (1, 1), (2, 3, 3)), True),
+                              (((0, 0), (1, 1), (0, 1, 1)), True),
                               # A closed kind is in one module.
                               (((0, 1), (1, 1), (2, 1, 3)), False), (((0, 0), (1, 0), (2, 1, 3)), False),
                               # The module of a constructor reaches those of the closed kinds of its parts.
-                              (((0, 0), (1, 1), (2, 2, 3)), False), (((0, 0), (1, 1), (2, 0, 3)), False), (((2, 2), (1, 1), (1, 1, 3)), False),
+                              (((0, 0), (1, 1), (2, 2, 3)), False), (((0, 0), (1, 1), (2, 0, 3)), False),
+                              (((2, 2), (1, 1), (1, 1, 3)), False),
                               # The module of a generic must reach that, too.
                               (((0, 0), (3, 3), (2, 3, 3)), False),
-                              (((0, 0), (1, 1)), False), (((0, 0), (1, 1), (2, 1)), False), (((0, 0), (1, 1), (2, 1, 3, 3)), False),
-                              (((0, 0), (1, 1), (2, 1, True)), False), (((0, 0), (1, 1), (2, 1, 4)), False), (((0, 0), (1, 1), (2, 1, -1)), False),
-                              (((0, 0), (1, 1), [2, 1, 3]), False), ([(0, 0), (1, 1), (2, 1, 3)], False), (((0, 0), (1, 1), None), False)):
+                              (((0, 0), (1, 1)), False), (((0, 0), (1, 1), (2, 1)), False),
+                              (((0, 0), (1, 1), (2, 1, 3, 3)), False),
+                              (((0, 0), (1, 1), (2, 1, True)), False), (((0, 0), (1, 1), (2, 1, 4)), False),
+                              (((0, 0), (1, 1), (2, 1, -1)), False),
+                              (((0, 0), (1, 1), [2, 1, 3]), False), ([(0, 0), (1, 1), (2, 1, 3)], False),
+                              (((0, 0), (1, 1), None), False)):
             self.assertIs(is_modules(PROGRAM, with_part(1, places)), right, places)
 
     def test_each_place_of_constructors_alone(self):
         """Without definitions, so that nothing else asks for something."""
         program = (SIGNATURE, (("Open", (2,), 2),), ())
-        for places, right in ((((0, 0), (1, 1), (2, 1, 3)), True), (((0, 0), (1, 1), (0, 1, 0)), True), (((0, 0), (1, 1), (2, 2, 3)), False),
-                              (((2, 2), (1, 1), (2, 1, 3)), True), (((2, 2), (1, 1), (3, 1, 3)), True), (((2, 2), (1, 1), (1, 1, 3)), False),
+        for places, right in ((((0, 0), (1, 1), (2, 1, 3)), True), (((0, 0), (1, 1), (0, 1, 0)), True),
+                              (((0, 0), (1, 1), (2, 2, 3)), False),
+                              (((2, 2), (1, 1), (2, 1, 3)), True), (((2, 2), (1, 1), (3, 1, 3)), True),
+                              (((2, 2), (1, 1), (1, 1, 3)), False),
                               (((3, 3), (3, 3), (3, 3, 0)), True), (((0, 0), (0, 1), (2, 1, 3)), False)):
             self.assertIs(is_modules(program, (IMPORTS, places, (0,), ())), right, places)
 
     def test_generics(self):
-        for places, right in (((1, 0), True), ((3, 0), False), ((2, 0), False), ((0, 0), False), ((1, 3), False), ((1,), False), ((1, 0, 0), False),
-                              ((1, True), False), ((1, False), False), ([1, 0], False), (None, False), ((1, 4), False), ((1, None), False)):
+        for places, right in (((1, 0), True), ((3, 0), False), ((2, 0), False), ((0, 0), False), ((1, 3), False), ((1,), False),
+                              ((1, 0, 0), False),
+                              ((1, True), False), ((1, False), False), ([1, 0], False), (None, False), ((1, 4), False),
+                              ((1, None), False)):
             self.assertIs(is_modules(PROGRAM, with_part(2, places)), right, places)
         program = (SIGNATURE, GENERICS, ())
         for places, right in (((1, 0), True), ((3, 0), True), ((2, 0), False), ((0, 0), False), ((1, 3), True), ((1, 2), True)):
@@ -84,7 +96,8 @@ class Points150And151(unittest.TestCase):
             self.assertIs(is_modules(back, (IMPORTS, MODULES[1], places, ())), right, places)
 
     def test_definitions(self):
-        for places, right in (((1, 1, 2, 3), True), ((3, 3, 3, 3), True), ((0, 1, 2, 3), False), ((2, 1, 2, 3), False), ((1, 0, 2, 3), False),
+        for places, right in (((1, 1, 2, 3), True), ((3, 3, 3, 3), True), ((0, 1, 2, 3), False), ((2, 1, 2, 3), False),
+                              ((1, 0, 2, 3), False),
                               ((1, 1, 0, 3), False), ((1, 1, 1, 3), False),
                               # Its pattern has no name; its body alone names what modules 0 and 2 do not reach.
                               ((1, 1, 2, 1), True), ((1, 1, 2, 0), False), ((1, 1, 2, 2), False),
@@ -117,7 +130,8 @@ class Points150And151(unittest.TestCase):
                 value = (imports, *[tuple(dice.randrange(many) for _ in row) for row in ((), (), ())])
                 places = tuple(tuple(dice.randrange(many) if how == "open" else here for _ in row)
                                for how, row in program[0] for here in [dice.randrange(many)])
-                value = (imports, places, tuple(dice.randrange(many) for _ in program[1]), tuple(dice.randrange(many) for _ in program[2]))
+                value = (imports, places, tuple(dice.randrange(many) for _ in program[1]),
+                         tuple(dice.randrange(many) for _ in program[2]))
                 right = plain_units.is_modules(program, value)
                 self.assertIs(is_modules(program, value), right)
                 rights, wrongs = rights + right, wrongs + (not right)
@@ -174,7 +188,8 @@ class Point155(unittest.TestCase):
 
     def test_a_constructor_with_a_part_of_an_empty_kind(self):
         """It goes, too: of a closed kind, whose module is reached, as well."""
-        signature = (("open", (("wrap", (0,)), ("seed", ()))), ("closed", (("only", (0,)), ("both", (0, 1)))), ("open", (("hold", (1,)),)))
+        signature = (("open", (("wrap", (0,)), ("seed", ()))), ("closed", (("only", (0,)), ("both", (0, 1)))),
+                     ("open", (("hold", (1,)),)))
         program = (signature, (("F", (0,), 0),), ())
         modules = (((), (0,)), ((0, 1), (0, 0), (0,)), (0,), ())
         self.assertIs(is_modules(program, modules), True)
@@ -207,7 +222,8 @@ class Point155(unittest.TestCase):
 
 class Point161(unittest.TestCase):
     def test_the_first_wrong_argument_is_named(self):
-        wrong_modules = (None, (), [], 0, True, list(MODULES), MODULES[:3], with_part(0, ((), (0,), (0,), (2,))), with_part(3, (1, 1, 2)))
+        wrong_modules = (None, (), [], 0, True, list(MODULES), MODULES[:3], with_part(0, ((), (0,), (0,), (2,))),
+                         with_part(3, (1, 1, 2)))
         wrong_units = (None, 0, [0], (4,), (-1,), (1, 0), (0, 0), (True,), (0, True), (None,), "0", {}, ((0,),), (0, 1, 2, 3, 4))
         for function in (reached_by, program_of, cut_signature):
             for wrong in NOTHINGS:

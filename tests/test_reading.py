@@ -35,26 +35,35 @@ def told(function, *arguments):
 
 # Beginnings of the text of a program, and what can come behind them: each place of the grammar.
 PROGRAM_PLACES = (
-    ("", "c .."), ("..", ";"), ("ab", "( ; |"), ("ab(", "n"), ("ab(0", ") ,"), ("ab(0,", "n"), ("ab(0,1", ") ,"), ("ab(0)", "; |"),
-    ("ab |", "c .."), ("ab | cd", "( ; |"), ("ab | ..", ";"), ("ab | cd(0) | ..", ";"), ("ab;", "c g .."), ("..; ..", ";"), ("ab; F", "("),
+    ("", "c .."), ("..", ";"), ("ab", "( ; |"), ("ab(", "n"), ("ab(0", ") ,"), ("ab(0,", "n"), ("ab(0,1", ") ,"),
+                  ("ab(0)", "; |"),
+    ("ab |", "c .."), ("ab | cd", "( ; |"), ("ab | ..", ";"), ("ab | cd(0) | ..", ";"), ("ab;", "c g .."), ("..; ..", ";"),
+                  ("ab; F", "("),
     ("ab; F(", "n"), ("ab; F(0", ") ,"), ("ab; F(0,", "n"), ("ab; F(0)", ":"), ("ab; F(0):", "n"), ("ab; F(0): 0", "; e"),
-    ("ab; F(0): 0;", "g"), ("ab; F(0): 0; G", "("), ("ab; F(0): 0; G(", "v c n"), ("ab; F(0): 0; G(0", ") ,"), ("ab; F(0): 0; G(0): 0", "; e"),
+    ("ab; F(0): 0;", "g"), ("ab; F(0): 0; G", "("), ("ab; F(0): 0; G(", "v c n"), ("ab; F(0): 0; G(0", ") ,"),
+                  ("ab; F(0): 0; G(0): 0", "; e"),
     ("ab; F(0): 0; F(a", ") ,"), ("ab; F(0): 0; F(a,", "v c"), ("ab; F(0): 0; F(cd", "( ) ,"), ("ab; F(0): 0; F(cd(", "v c"),
-    ("ab; F(0): 0; F(cd(a", ") ,"), ("ab; F(0): 0; F(cd(a,", "v c"), ("ab; F(0): 0; F(cd(ef", "( ) ,"), ("ab; F(0): 0; F(cd(a)", ") ,"),
-    ("ab; F(0): 0; F(a)", "="), ("ab; F(0): 0; F(a) =", "v c g"), ("ab; F(0): 0; F(a) = a", "; e"), ("ab; F(0): 0; F(a) = ab", "( ; e"),
+    ("ab; F(0): 0; F(cd(a", ") ,"), ("ab; F(0): 0; F(cd(a,", "v c"), ("ab; F(0): 0; F(cd(ef", "( ) ,"),
+                  ("ab; F(0): 0; F(cd(a)", ") ,"),
+    ("ab; F(0): 0; F(a)", "="), ("ab; F(0): 0; F(a) =", "v c g"), ("ab; F(0): 0; F(a) = a", "; e"),
+                  ("ab; F(0): 0; F(a) = ab", "( ; e"),
     ("ab; F(0): 0; F(a) = ab(", "v c g"), ("ab; F(0): 0; F(a) = ab(a", ") ,"), ("ab; F(0): 0; F(a) = ab(a,", "v c g"),
     ("ab; F(0): 0; F(a) = ab(cd", "( ) ,"), ("ab; F(0): 0; F(a) = ab(a)", "; e"), ("ab; F(0): 0; F(a) = F", "("),
-    ("ab; F(0): 0; F(a) = F(", "v c g"), ("ab; F(0): 0; F(a) = F(F", "("), ("ab; F(0): 0; F(a) = F(a", ") ,"), ("ab; F(0): 0; F(a) = F(a)", "; e"),
+    ("ab; F(0): 0; F(a) = F(", "v c g"), ("ab; F(0): 0; F(a) = F(F", "("), ("ab; F(0): 0; F(a) = F(a", ") ,"),
+                  ("ab; F(0): 0; F(a) = F(a)", "; e"),
     ("ab; F(0): 0; F(a) = F(F(a)", ") ,"), ("ab; F(0): 0; F(a) = a;", "g"), ("ab; F(0): 0; F(a) = a; F", "("),
     # Behind a definition there is no further head.
-    ("ab; F(0): 0; F(a) = a; F(", "v c"), ("ab; F(0): 0; F(a) = a; F(a) = a", "; e"), ("ab; F(0): 0; F(a) = a; F(a) = a; G(", "v c"),
+    ("ab; F(0): 0; F(a) = a; F(", "v c"), ("ab; F(0): 0; F(a) = a; F(a) = a", "; e"),
+                  ("ab; F(0): 0; F(a) = a; F(a) = a; G(", "v c"),
     ("ab; F(0): 0; G(0): 0; H(", "v c n"))
 USE_PLACES = (
-    ("", "g"), ("F", "("), ("F(", "c #"), ("F(#", "n"), ("F(#0", ") ,"), ("F(#0,", "c #"), ("F(ab", "( ) ,"), ("F(ab(", "c #"), ("F(ab(#", "n"),
+    ("", "g"), ("F", "("), ("F(", "c #"), ("F(#", "n"), ("F(#0", ") ,"), ("F(#0,", "c #"), ("F(ab", "( ) ,"), ("F(ab(", "c #"),
+              ("F(ab(#", "n"),
     ("F(ab(#1", ") ,"), ("F(ab(cd,", "c #"), ("F(ab(cd)", ") ,"), ("F(ab)", "e"), ("F(ab, cd)", "e"))
 PLACES = [("program", *place) for place in PROGRAM_PLACES] + [("use", *place) for place in USE_PLACES]
 # One token of each word.
-SAMPLES = {"a variable": "x", "a constructor": "xy", "a generic": "Xy", "a number": "3", **{word: sign for sign, word in SIGNS.items()}}
+SAMPLES = {"a variable": "x", "a constructor": "xy", "a generic": "Xy", "a number": "3",
+           **{word: sign for sign, word in SIGNS.items()}}
 
 
 def expected(found):
@@ -97,8 +106,10 @@ class Points164And165(unittest.TestCase):
 
     def test_problems_of_tokens_come_first(self):
         """Also far behind a wrong token."""
-        for text, column, problem in ((") ) ab; F(0): 0; F(a) = ?", 25, "no token begins here"), ("( abcdefghi", 3, "a name has at most 8 letters"),
-                                      ("F F 1234567", 5, "a number has at most 6 digits"), ("ab; ab; F(7): 9 .", 17, "no token begins here")):
+        for text, column, problem in ((") ) ab; F(0): 0; F(a) = ?", 25, "no token begins here"),
+                                      ("( abcdefghi", 3, "a name has at most 8 letters"),
+                                      ("F F 1234567", 5, "a number has at most 6 digits"),
+                                      ("ab; ab; F(7): 9 .", 17, "no token begins here")):
             for function, rest in ((read_program, ()), (next_tokens, ("program",)), (next_tokens, ("use",))):
                 text_error(self, column, problem, function, text, *rest)
             text_error(self, column, problem, read_use, read_program(SIZE), text)
@@ -109,17 +120,20 @@ class Points164And165(unittest.TestCase):
 
     def test_fifteen_hundred_parentheses(self):
         inner = "ab(" * 1500
-        for ahead, kind, short in (("ab; F(0): 0; F(", "program", "v c"), ("ab; F(0): 0; F(a) = ", "program", "v c g"), ("F(", "use", "c #")):
+        for ahead, kind, short in (("ab; F(0): 0; F(", "program", "v c"), ("ab; F(0): 0; F(a) = ", "program", "v c g"),
+                                   ("F(", "use", "c #")):
             self.assertEqual(next_tokens(ahead + inner, kind), words(short))
             self.assertEqual(next_tokens(ahead + inner + "cd" + ")" * 1500, kind), next_tokens(ahead + "cd(ab)", kind))
             text_error(self, len(ahead + inner) + 1, expected(words(short)), next_tokens, ahead + inner + ")", kind)
         self.assertEqual(next_tokens("ab; F(0): 0; F(a) = " + "F(" * 1500 + "a" + ")" * 1500, "program"), words("; e"))
-        text_error(self, 16, "there is no such constructor", read_program, "ab; F(0): 0; F(" + "cd(" * 1500 + "a" + ")" * 1500 + ") = a")
+        text_error(self, 16, "there is no such constructor", read_program,
+                   "ab; F(0): 0; F(" + "cd(" * 1500 + "a" + ")" * 1500 + ") = a")
         text = "ab(0) | cd; F(0): 0; F(" + "ab(" * 1500 + "a" + ")" * 1501 + " = a"
         text_error(self, 24 + 12 * 3, "a pattern has at most 12 places", read_program, text)
         text = "ab(0) | cd; F(0): 0; F(a) = " + "F(" * 1500 + "a" + ")" * 1500
         text_error(self, 29 + 12 * 2, "a body has at most 12 places", read_program, text)
-        text_error(self, 6 + 60 * 4, "an argument has at most 60 places", read_use, read_program(SIZE), "Size(" + "ptr(" * 1500 + "int" + ")" * 1501)
+        text_error(self, 6 + 60 * 4, "an argument has at most 60 places", read_use, read_program(SIZE),
+                   "Size(" + "ptr(" * 1500 + "int" + ")" * 1501)
         text_error(self, 6 + 1500 * 4, expected(words("c #")), read_use, read_program(SIZE), "Size(" + "ptr(" * 1500 + ")" * 1501)
 
     def test_as_the_points_read(self):
@@ -173,7 +187,8 @@ def exchanged_tokens(tokens, dice):
     """The tokens with some exchanged for others of the same kind, so that they follow the grammar as before."""
     tokens = list(tokens)
     kinds = [scan(token)[0][0] for token in tokens]
-    more = {"variable": "ab", "constructor": ["xy", "zz"], "generic": ["X", "Yz"], "number": ["0", "1", "2", "3", "00"], "sign": []}
+    more = {"variable": "ab", "constructor": ["xy", "zz"], "generic": ["X", "Yz"], "number": ["0", "1", "2", "3", "00"],
+            "sign": []}
     for _ in range(dice.randint(1, 2)):
         at = dice.randrange(len(tokens))
         if kinds[at] != "sign":
@@ -184,7 +199,8 @@ def exchanged_tokens(tokens, dice):
 class Points166To168(unittest.TestCase):
     def test_the_examples(self):
         """Point 173."""
-        add = (NUMBERS[:1], (("Add", (0, 0), 0),), (("Add", (("zero",), 0), 0), ("Add", (("next", 0), 1), ("next", ("Add", 0, 1)))))
+        add = (NUMBERS[:1], (("Add", (0, 0), 0),), (("Add", (("zero",), 0), 0),
+                                                    ("Add", (("next", 0), 1), ("next", ("Add", 0, 1)))))
         self.assertEqual(read_program(ADD), add)
         size = ((("open", (("int", ()), ("ptr", (0,)))),), (("Size", (0,), 0),), ())
         self.assertEqual(read_program(SIZE), size)
@@ -267,7 +283,8 @@ class Points166To168(unittest.TestCase):
         ahead = "ab | cd(0) | ef(0, 0); gh(0) | ..; F(0, 1): 0; "
         start = len(ahead) + 1
         self.problem(ahead + "F(a, a) = ab", start + 5, "this is of another kind")
-        self.problem(ahead + "F(ef(a, b), gh(c)) = ab; F(b, gh(a)) = ab; F(a, b) = a; F(cd(b), b) = b", start + 65, "this is of another kind")
+        self.problem(ahead + "F(ef(a, b), gh(c)) = ab; F(b, gh(a)) = ab; F(a, b) = a; F(cd(b), b) = b", start + 65,
+                     "this is of another kind")
         self.problem(ahead + "F(zz, a) = ab", start + 2, "there is no such constructor")
         self.problem(ahead + "F(gh(a), b) = ab", start + 2, "this is of another kind")
         self.problem(ahead + "F(a, cd(b)) = ab", start + 5, "this is of another kind")
@@ -340,7 +357,8 @@ class Points166To168(unittest.TestCase):
         for last in ("c", "b", "Z(a)", "F(a)"):
             text = ahead + "F(a, b) = " + twelve + "cd(" + last + ")" * 12
             self.problem(text, start + 10 + 36, "a body has at most 12 places")
-        self.problem(ahead + "F(" + twelve + "a" + ")" * 11 + ", a) = ab", start + 2 + 33 + 1 + 11 + 2, "a pattern has at most 12 places")
+        self.problem(ahead + "F(" + twelve + "a" + ")" * 11 + ", a) = ab", start + 2 + 33 + 1 + 11 + 2,
+                     "a pattern has at most 12 places")
 
     def test_two_problems_at_different_tokens(self):
         self.problem("ab(3) | ab; F(0): 0", 4, "there is no such kind")
@@ -374,7 +392,8 @@ class Points166To168(unittest.TestCase):
                 counts[word] = counts.get(word, 0) + 1
         for word in ("fine", "there is no such kind", "this name stands already", "there is no such generic",
                      "this generic has another number of parameters", "this is of another kind", "there is no such constructor",
-                     "this constructor has another number of parts", "this pattern stands already", "the pattern does not have this variable"):
+                     "this constructor has another number of parts", "this pattern stands already",
+                     "the pattern does not have this variable"):
             self.assertGreater(counts.get(word, 0), 4, word)
 
 
@@ -406,7 +425,8 @@ class Point169(unittest.TestCase):
 
     def test_uses(self):
         for text, use in (("F(ab, #0)", ("F", ("ab",), ("#", 0))), (" G ( gh ( cd ( ab ) ) ) ", ("G", ("gh", ("cd", ("ab",))))),
-                          ("G(#000012)", ("G", ("#", 12))), ("G(# 999999)", ("G", ("#", 999999))), ("G(pp(#1,#1))", ("G", ("pp", ("#", 1), ("#", 1))))):
+                          ("G(#000012)", ("G", ("#", 12))), ("G(# 999999)", ("G", ("#", 999999))),
+                          ("G(pp(#1,#1))", ("G", ("pp", ("#", 1), ("#", 1))))):
             self.assertEqual(read_use(self.PROGRAM, text), use)
 
     def test_problems(self):
@@ -470,7 +490,8 @@ class Point169(unittest.TestCase):
                 self.assertEqual(told(read_use, program, text), right)
                 word = right[1] if isinstance(right[0], int) else "fine"
                 counts[word] = counts.get(word, 0) + 1
-        for word in ("fine", "there is no such generic", "this generic has another number of parameters", "there is no such constructor",
+        for word in ("fine", "there is no such generic", "this generic has another number of parameters",
+                     "there is no such constructor",
                      "this is of another kind", "this constructor has another number of parts"):
             self.assertGreater(counts.get(word, 0), 9, word)
 

@@ -60,18 +60,25 @@ class Point162(unittest.TestCase):
 
 class Point163(unittest.TestCase):
     def test_kinds_of_tokens(self):
-        for text, kind in (("a", "variable"), ("z", "variable"), ("ab", "constructor"), ("zz", "constructor"), ("abcdefgh", "constructor"),
+        for text, kind in (("a", "variable"), ("z", "variable"), ("ab", "constructor"), ("zz", "constructor"),
+                           ("abcdefgh", "constructor"),
                            ("A", "generic"), ("Z", "generic"), ("Az", "generic"), ("Abcdefgh", "generic"), ("0", "number"),
-                           ("9", "number"), ("000000", "number"), ("123456", "number"), ("007", "number"), ("(", "sign"), (")", "sign"),
-                           (",", "sign"), (";", "sign"), (":", "sign"), ("=", "sign"), ("|", "sign"), ("..", "sign"), ("#", "sign")):
+                           ("9", "number"), ("000000", "number"), ("123456", "number"), ("007", "number"), ("(", "sign"),
+                           (")", "sign"),
+                           (",", "sign"), (";", "sign"), (":", "sign"), ("=", "sign"), ("|", "sign"), ("..", "sign"),
+                           ("#", "sign")):
             self.assertEqual(scan(text), [(kind, text, 1), ("end", "", len(text) + 1)])
 
     def test_as_long_as_possible(self):
-        self.assertEqual(kinds_and_characters("abAbAABbc"), [("constructor", "ab"), ("generic", "Ab"), ("generic", "A"), ("generic", "A"),
+        self.assertEqual(kinds_and_characters("abAbAABbc"), [("constructor", "ab"), ("generic", "Ab"), ("generic", "A"),
+                                                             ("generic", "A"),
                                                               ("generic", "Bbc"), ("end", "")])
-        self.assertEqual(kinds_and_characters("aA1b2cd34"), [("variable", "a"), ("generic", "A"), ("number", "1"), ("variable", "b"),
-                                                              ("number", "2"), ("constructor", "cd"), ("number", "34"), ("end", "")])
-        self.assertEqual(kinds_and_characters("a b ab"), [("variable", "a"), ("variable", "b"), ("constructor", "ab"), ("end", "")])
+        self.assertEqual(kinds_and_characters("aA1b2cd34"), [("variable", "a"), ("generic", "A"), ("number", "1"),
+                                                             ("variable", "b"),
+                                                              ("number", "2"), ("constructor", "cd"), ("number", "34"),
+                                                             ("end", "")])
+        self.assertEqual(kinds_and_characters("a b ab"), [("variable", "a"), ("variable", "b"), ("constructor", "ab"),
+                                                          ("end", "")])
         self.assertEqual(kinds_and_characters("1 2 12"), [("number", "1"), ("number", "2"), ("number", "12"), ("end", "")])
         self.assertEqual(kinds_and_characters("...."), [("sign", ".."), ("sign", ".."), ("end", "")])
         self.assertEqual(kinds_and_characters("==::"), [("sign", "=")] * 2 + [("sign", ":")] * 2 + [("end", "")])
@@ -93,7 +100,8 @@ class Point163(unittest.TestCase):
             text_error(self, 2, BEGINS, scan, "1" + letter)
 
     def test_names_of_eight_and_nine_letters(self):
-        self.assertEqual(scan("abcdefgh Abcdefgh"), [("constructor", "abcdefgh", 1), ("generic", "Abcdefgh", 10), ("end", "", 18)])
+        self.assertEqual(scan("abcdefgh Abcdefgh"), [("constructor", "abcdefgh", 1), ("generic", "Abcdefgh", 10),
+                                                     ("end", "", 18)])
         text_error(self, 1, LETTERS, scan, "abcdefghi")
         text_error(self, 3, LETTERS, scan, "a Abcdefghi")
         text_error(self, 2, LETTERS, scan, "(" + "z" * 7000)

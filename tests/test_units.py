@@ -95,7 +95,7 @@ class Points152To154(unittest.TestCase):
         self.assertGreater(many, 1000)
 
     def test_reached_definitions(self):
-        """Point 153: each unit that can write a use that the pattern matches sees a reached one; of the others some unit does not."""
+        """Point 153: each unit that can write a use that the pattern matches sees it if it is reached, otherwise some does not."""
         reached = other = 0
         for _, program, modules in some_spread_programs(250, 153):
             for at, (name, pattern, _) in enumerate(program[2]):
@@ -117,9 +117,11 @@ class Points152To154(unittest.TestCase):
         self.assertEqual(program_of(WHOLE, SPREAD, (1,)), WHOLE)
         for unit, use, right in (((0,), ("Size", STAR), True), ((1,), ("Size", STAR), False), ((), ("Size", STAR), False),
                                  ((0, 1), ("Size", STAR), False), ((0,), ("Size", ("#", 7)), True), ((0,), ("Size", INT), False),
-                                 ((0,), ("Size", ptr(STAR)), False), ([0], ("Size", STAR), False), ((False,), ("Size", STAR), False),
+                                 ((0,), ("Size", ptr(STAR)), False), ([0], ("Size", STAR), False),
+                                 ((False,), ("Size", STAR), False),
                                  ((0, 0), ("Size", STAR), False), ((2,), ("Size", STAR), False), (0, ("Size", STAR), False),
-                                 (None, ("Size", STAR), False), ((0,), ("Size", 0), False), ((0,), ("Size",), False), ((0,), None, False)):
+                                 (None, ("Size", STAR), False), ((0,), ("Size", 0), False), ((0,), ("Size",), False),
+                                 ((0,), None, False)):
             self.assertIs(accepts_units(WHOLE, SPREAD, ("some", unit, use)), right)
             self.assertIs(accepts_bare(WHOLE, SPREAD, ("some", unit, use)), False)
 
@@ -146,14 +148,18 @@ class Points152To154(unittest.TestCase):
         program = (WORDS, (("Size", (0,), 0),), (("Size", (ptr(INT),), INT),))
         modules = (numbers_of_modules(5, (0, 1, 2, 3), (4, 2), (3, 0), (3, 4), (0, 3)), ((0, 4),), (0,), (3,))
         self.assertEqual(units_evidence(program, modules), ("all", (("reached", (0, 3)),)))
-        for path, right in (((0, 3), True), ((0, 1, 2, 3), True), ((4, 2, 3), True), ((0, 1, 3), False), ((2, 3), False), ((0, 1, 2), False),
-                            ((3,), False), ((), False), ([0, 3], False), ((False, 3), False), ((0, True, 2, 3), False), ((0, 3, 0, 3), False),
+        for path, right in (((0, 3), True), ((0, 1, 2, 3), True), ((4, 2, 3), True), ((0, 1, 3), False), ((2, 3), False),
+                            ((0, 1, 2), False),
+                            ((3,), False), ((), False), ([0, 3], False), ((False, 3), False), ((0, True, 2, 3), False),
+                            ((0, 3, 0, 3), False),
                             ((0, 5), False), ((0, -2), False), (None, False), (3, False), ((0, "3"), False), ((0, (3,)), False),
                             ((0, 3, 4, 2, 3), False), ((4, 3), False)):
             for accepts in (accepts_units, accepts_bare):
                 self.assertIs(accepts(program, modules, ("all", (("reached", path),))), right, path)
-        for value in (("all", [("reached", (0, 3))]), ("all", (["reached", (0, 3)],)), ("all", ()), ("all", (("reached", (0, 3)),) * 2),
-                      ("all", (("reached",),)), ("all", (("reached", (0, 3), ()),)), ("some", (("reached", (0, 3)),)), ["all", (("reached", (0, 3)),)],
+        for value in (("all", [("reached", (0, 3))]), ("all", (["reached", (0, 3)],)), ("all", ()),
+                      ("all", (("reached", (0, 3)),) * 2),
+                      ("all", (("reached",),)), ("all", (("reached", (0, 3), ()),)), ("some", (("reached", (0, 3)),)),
+                      ["all", (("reached", (0, 3)),)],
                       ("all", ("reached", (0, 3))), ("all", (("never", (0, 3)),)), ("all", (("empty", (0, 3)),)), ("all",)):
             self.assertIs(accepts_units(program, modules, value), False)
             self.assertIs(accepts_bare(program, modules, value), False)
@@ -253,10 +259,13 @@ class Points152To154(unittest.TestCase):
             self.assertEqual(bare_evidence(program, modules)[0], "some")
 
     def test_whatever_is_judged(self):
-        for program, modules in ((WHOLE, SPREAD), (PROGRAM, MODULES), ((WORDS, (("F", (0,), 0),), ()), (((),), ((0, 0),), (0,), ()))):
+        for program, modules in ((WHOLE, SPREAD), (PROGRAM, MODULES),
+                                 ((WORDS, (("F", (0,), 0),), ()), (((),), ((0, 0),), (0,), ()))):
             for value in (*NOTHINGS, *deep_things()):
-                for evidence in (value, ("all", value), ("all", (value,)), ("all", (value,) * 3), ("some", value, value), ("some", (0,), value),
-                                 ("all", (("reached", value),) * 3), ("all", (("never", value),) * 3), ("all", (("empty", value),) * 3),
+                for evidence in (value, ("all", value), ("all", (value,)), ("all", (value,) * 3), ("some", value, value),
+                                 ("some", (0,), value),
+                                 ("all", (("reached", value),) * 3), ("all", (("never", value),) * 3),
+                                 ("all", (("empty", value),) * 3),
                                  ("some", value, ("Size", STAR)), ("some", (0,), ("Size", value)), (value, ())):
                     right = program[2] == () and evidence == ("all", ())
                     self.assertIs(accepts_units(program, modules, evidence), right)
@@ -321,7 +330,8 @@ class Points155To157(unittest.TestCase):
 
     def test_empty_kinds(self):
         """Of point 155: told are all empty kinds, also those that no variable of the pattern has."""
-        signature = (("open", (("wrap", (0,)), ("seed", ()))), ("closed", (("only", (0,)), ("both", (0, 1)))), ("closed", (("one", ()),)))
+        signature = (("open", (("wrap", (0,)), ("seed", ()))), ("closed", (("only", (0,)), ("both", (0, 1)))),
+                     ("closed", (("one", ()),)))
         program = (signature, (("F", (1, 2), 2),), (("F", (("only", 0), 1), 1), ("F", (("only", ("seed",)), 0), 0)))
         modules = (((), (0,)), ((0, 1), (0, 0), (0,)), (0,), (1, 1))
         self.assertIs(is_modules(program, modules), True)
@@ -329,8 +339,10 @@ class Points155To157(unittest.TestCase):
         # The first one has a variable of kind 0; the second one is reached by the module of "seed".
         rows = (("empty", (0, 1)), ("reached", (1,)))
         self.assertEqual(bare_evidence(program, modules), ("all", rows))
-        for kinds, right in (((0, 1), True), ((0,), True), ((1,), False), ((), False), ((0, 2), False), ((0, 1, 2), False), ((1, 0), False),
-                             ((0, 0), False), ([0, 1], False), ((False, 1), False), ((0, True), False), ((2,), False), ((0, 3), False),
+        for kinds, right in (((0, 1), True), ((0,), True), ((1,), False), ((), False), ((0, 2), False), ((0, 1, 2), False),
+                             ((1, 0), False),
+                             ((0, 0), False), ([0, 1], False), ((False, 1), False), ((0, True), False), ((2,), False),
+                             ((0, 3), False),
                              ((-1, 0), False), (None, False), (0, False)):
             self.assertIs(accepts_bare(program, modules, ("all", (("empty", kinds), rows[1]))), right, kinds)
         self.assertIs(accepts_bare(program, modules, ("all", (rows[0], ("empty", (0, 1))))), False)
@@ -343,7 +355,8 @@ class Points155To157(unittest.TestCase):
         """It does not count that a constructor has no part of these kinds, if its module reaches the definition."""
         signature = (("open", (("seed", ()), ("wrap", (0,)))), ("closed", (("one", ()),)))
         program = (signature, (("F", (0,), 1),), (("F", (0,), ("one",)),))
-        for seed, imports, right in ((1, ((), (0,)), True), (0, ((), (0,)), False), (2, ((), (0,), (1,)), True), (2, ((), (0,), (0,)), False)):
+        for seed, imports, right in ((1, ((), (0,)), True), (0, ((), (0,)), False), (2, ((), (0,), (1,)), True),
+                                     (2, ((), (0,), (0,)), False)):
             modules = (imports, ((seed, 0), (0,)), (0,), (1,))
             self.assertIs(is_modules(program, modules), True)
             self.assertIs(accepts_bare(program, modules, ("all", (("empty", (0,)),))), right)
@@ -371,8 +384,10 @@ class Points155To157(unittest.TestCase):
         right = (("reached", (1,)), ("reached", (0,)), ("never", tree), ("reached", (0,)))
         self.assertEqual(bare_evidence(program, modules), ("all", right))
         self.assertEqual(units_evidence(program, modules), ("some", (0,), ("F", STAR)))
-        for value, fine in ((("split", 0, (("by", 0), ("by", 3))), False), (("split", 0, (("by", 1), ("by", 0), ("by", 3))), False),
-                            (("split", 0, (("by", 1), ("by", 2))), False), (("split", 0, (("by", 1), ("split", 1, (("by", 3), ("by", 3))))), True)):
+        for value, fine in ((("split", 0, (("by", 0), ("by", 3))), False),
+                            (("split", 0, (("by", 1), ("by", 0), ("by", 3))), False),
+                            (("split", 0, (("by", 1), ("by", 2))), False),
+                            (("split", 0, (("by", 1), ("split", 1, (("by", 3), ("by", 3))))), True)):
             self.assertIs(accepts_bare(program, modules, ("all", (*right[:2], ("never", value), right[3]))), fine)
         # Without the constructor the last row is not covered: a bare unit can write it.
         less = (signature, program[1], program[2][:3])
@@ -401,17 +416,20 @@ class Points155To157(unittest.TestCase):
         modules = (((), (0,), (0, 1)), ((0, 0), (1,)), (0,), (2,))
         for unit, use, right, bare in (((0, 1), ("F", ("box", ZERO)), True, True), ((1,), ("F", ("box", nxt(ZERO))), True, True),
                                        ((0,), ("F", ("box", ZERO)), False, False), ((2,), ("F", ("box", ZERO)), False, False),
-                                       ((0, 1), ("F", STAR), True, False), ((0,), ("F", STAR), True, False), ((), ("F", STAR), False, False)):
+                                       ((0, 1), ("F", STAR), True, False), ((0,), ("F", STAR), True, False),
+                                       ((), ("F", STAR), False, False)):
             self.assertIs(accepts_units(program, modules, ("some", unit, use)), right)
             self.assertIs(accepts_bare(program, modules, ("some", unit, use)), bare)
-        for value in (("some", (1,)), ("some", (1,), ("F", ("box", ZERO)), ()), ["some", (1,), ("F", ("box", ZERO))], ("all", (1,), ("F", ("box", ZERO)))):
+        for value in (("some", (1,)), ("some", (1,), ("F", ("box", ZERO)), ()), ["some", (1,), ("F", ("box", ZERO))],
+                      ("all", (1,), ("F", ("box", ZERO)))):
             self.assertIs(accepts_bare(program, modules, value), False)
             self.assertIs(accepts_units(program, modules, value), False)
 
     def test_uses_without_a_choice_are_no_evidence(self):
         program = (NUMBERS, (("F", (0, 0), 0),), (("F", (nxt(0), 1), 0), ("F", (0, nxt(1)), 0)))
         modules = (((), (0,)), ((0, 0), (0,)), (0,), (1, 1))
-        for use, right in ((("F", ZERO, ZERO), False), (("F", nxt(ZERO), nxt(ZERO)), False), (("F", nxt(ZERO), ZERO), True), (("F", ZERO, nxt(ZERO)), True)):
+        for use, right in ((("F", ZERO, ZERO), False), (("F", nxt(ZERO), nxt(ZERO)), False), (("F", nxt(ZERO), ZERO), True),
+                           (("F", ZERO, nxt(ZERO)), True)):
             self.assertIs(accepts_units(program, modules, ("some", (0,), use)), right)
             self.assertIs(accepts_bare(program, modules, ("some", (0,), use)), right)
 
@@ -445,7 +463,8 @@ class Points158And159(unittest.TestCase):
                     continue
                 for use in plain_units.small_uses(program, 3, strangers):
                     whole = told_or_word(done_evidence, program, use)
-                    units = [unit for unit in plain_units.all_units(modules) if plain_units.can_write(program, modules, unit, use)]
+                    units = [unit for unit in plain_units.all_units(modules) if plain_units.can_write(program, modules, unit,
+                        use)]
                     if whole[0] == "two":
                         continue
                     for unit in units[:6]:
@@ -512,10 +531,13 @@ class Point160(unittest.TestCase):
         imports = ((), (0,), (1,), (1,), (1,), (1,))
         modules = (imports, ((0, 0), (5,)), (1, 1, 1, 1), (2, 3, 2, 3, 4, 4, 4, 5))
         self.assertIs(is_modules(EXAMPLE, modules), True)
-        for use, right in ((("Add", ZERO, ZERO), (0, 1, 2)), (("Add", number(1), ZERO), (0, 1, 2, 3)), (("Half", number(1)), (0, 1)),
-                           (("Half", number(3)), (0, 1, 3)), (("Pick", ZERO, number(2)), (0, 1, 2, 4)), (("Spin", ZERO), (0, 1, 2, 5))):
+        for use, right in ((("Add", ZERO, ZERO), (0, 1, 2)), (("Add", number(1), ZERO), (0, 1, 2, 3)),
+                           (("Half", number(1)), (0, 1)),
+                           (("Half", number(3)), (0, 1, 3)), (("Pick", ZERO, number(2)), (0, 1, 2, 4)),
+                           (("Spin", ZERO), (0, 1, 2, 5))):
             self.assertEqual(wanted_modules(EXAMPLE, modules, (use,)), right)
-        self.assertEqual(wanted_modules(EXAMPLE, modules, (("Half", number(3)), ("Spin", ZERO), ("Half", number(3)))), (0, 1, 2, 3, 5))
+        self.assertEqual(wanted_modules(EXAMPLE, modules, (("Half", number(3)), ("Spin", ZERO), ("Half", number(3)))),
+                         (0, 1, 2, 3, 5))
         not_possible(self, "two", wanted_modules, EXAMPLE, modules, (("Pick", number(1), number(1)),))
         not_possible(self, "two", wanted_modules, EXAMPLE, modules, (("Half", ZERO), ("Pick", number(1), number(1))))
         # A stranger stands for what the unit adds itself.
@@ -523,7 +545,8 @@ class Point160(unittest.TestCase):
         self.assertEqual(wanted_modules(WHOLE, SPREAD, (("Size", INT),)), (0,))
 
     def test_uses_that_are_too_large_and_their_order(self):
-        program = (TYPES, (("F", (0,), 0), ("G", (0, 0), 0)), (("F", (0,), ("F", ptr(0))), ("G", (ptr(0), 1), 0), ("G", (0, ptr(1)), 0)))
+        program = (TYPES, (("F", (0,), 0), ("G", (0, 0), 0)),
+                   (("F", (0,), ("F", ptr(0))), ("G", (ptr(0), 1), 0), ("G", (0, ptr(1)), 0)))
         modules = (((),), ((0, 0, 0),), (0, 0), (0, 0, 0))
         large, two = ("F", INT), ("G", ptr(INT), ptr(INT))
         too_large(self, "rows", wanted_modules, program, modules, (large,))
@@ -536,15 +559,20 @@ class Point160(unittest.TestCase):
         program = (WORDS, (("Size", (0,), 0),), ())
         imports = numbers_of_modules(6, (3, 0), (4, 0), (3, 1), (4, 1), (5, 2), (5, 1))
         modules = (imports, ((0, 0),), (0,), ())
-        for unit, wanted, right in (((), (0, 1), (3,)), ((), (0,), (0,)), ((0,), (0,), ()), ((), (), ()), ((3,), (0, 1), ()), ((), (0, 1, 2), (0, 5)),
-                                    ((), (0, 3, 4), (3, 4)), ((5,), (0, 1), (0,)), ((), (0, 1, 2, 3, 4, 5), (3, 4, 5)), ((3, 4, 5), (0, 1, 2), ()),
+        for unit, wanted, right in (((), (0, 1), (3,)), ((), (0,), (0,)), ((0,), (0,), ()), ((), (), ()), ((3,), (0, 1), ()),
+                                    ((), (0, 1, 2), (0, 5)),
+                                    ((), (0, 3, 4), (3, 4)), ((5,), (0, 1), (0,)), ((), (0, 1, 2, 3, 4, 5), (3, 4, 5)),
+                                    ((3, 4, 5), (0, 1, 2), ()),
                                     ((2,), (0, 1, 2), (3,))):
             self.assertEqual(further_imports(program, modules, unit, wanted), right)
             self.assertIs(accepts_imports(program, modules, unit, wanted, right), True)
-        for value, right in (((3,), True), ((4,), True), ((5,), False), ((0, 1), False), ((3, 4), False), ((), False), ((True,), False),
-                             ([3], False), ((6,), False), ((-2,), False), (None, False), (3, False), (("3",), False), ((3, 3), False)):
+        for value, right in (((3,), True), ((4,), True), ((5,), False), ((0, 1), False), ((3, 4), False), ((), False),
+                             ((True,), False),
+                             ([3], False), ((6,), False), ((-2,), False), (None, False), (3, False), (("3",), False),
+                             ((3, 3), False)):
             self.assertIs(accepts_imports(program, modules, (), (0, 1), value), right)
-        for value, right in (((0, 5), True), ((3, 5), True), ((4, 5), True), ((5, 0), False), ((0, 1, 2), False), ((0, 1, 5), False), ((1, 2), False),
+        for value, right in (((0, 5), True), ((3, 5), True), ((4, 5), True), ((5, 0), False), ((0, 1, 2), False),
+                             ((0, 1, 5), False), ((1, 2), False),
                              ((2, 3), True), ((2, 4), True), ((False, 5), False)):
             self.assertIs(accepts_imports(program, modules, (), (0, 1, 2), value), right)
         for value in (*NOTHINGS, *deep_things()):
@@ -555,9 +583,11 @@ class Point160(unittest.TestCase):
 
 class Point161(unittest.TestCase):
     def test_the_first_wrong_argument_is_named(self):
-        calls = ((units_evidence, ()), (accepts_units, (None,)), (bare_evidence, ()), (accepts_bare, (None,)), (wanted_modules, (None,)),
+        calls = ((units_evidence, ()), (accepts_units, (None,)), (bare_evidence, ()), (accepts_bare, (None,)),
+                 (wanted_modules, (None,)),
                  (further_imports, (None, None)), (accepts_imports, (None, None, None)))
-        wrong_modules = (None, (), [], 0, True, list(SPREAD), SPREAD[:3], (SPREAD[0], ((0, 1),), (1,), (0, 0, 1)), (SPREAD[0], SPREAD[1], (0,), (0, 1)))
+        wrong_modules = (None, (), [], 0, True, list(SPREAD), SPREAD[:3], (SPREAD[0], ((0, 1),), (1,), (0, 0, 1)),
+                         (SPREAD[0], SPREAD[1], (0,), (0, 1)))
         for function, rest in calls:
             for wrong in (*NOTHINGS, *deep_things()):
                 bad(self, "program", function, wrong, None, *rest)
@@ -578,7 +608,8 @@ class Point161(unittest.TestCase):
                 self.assertEqual(wanted_modules(WHOLE, SPREAD, (right,) * many), (0,))
             else:
                 bad(self, "uses", wanted_modules, WHOLE, SPREAD, (right,) * many)
-        for wrong in (None, 0, True, [right], right, (right, None), (("Size",),), (("Size", 0),), (("Sise", INT),), (["Size", INT],), ((),), {},
+        for wrong in (None, 0, True, [right], right, (right, None), (("Size",),), (("Size", 0),), (("Sise", INT),),
+                      (["Size", INT],), ((),), {},
                       (("Size", chain("ptr", 60, INT)),), (("Size", ("#", True)),)):
             bad(self, "uses", wanted_modules, WHOLE, SPREAD, wrong)
         self.assertEqual(wanted_modules(WHOLE, SPREAD, (("Size", chain("ptr", 59, INT)),)), (0,))

@@ -235,7 +235,8 @@ class Point140(unittest.TestCase):
         table = ((ptr(0), 1), (0, ptr(1)))
         for case, number in (((0, 1), 0), ((ptr(0), ptr(0)), 1), ((INT, 0), 0)):
             for value in (*NOTHINGS, *deep_things()):
-                for evidence in (value, ("chosen", value), ("never", value), ("apart", value), (value, 0), ("chosen", (value, value)),
+                for evidence in (value, ("chosen", value), ("never", value), ("apart", value), (value, 0),
+                                 ("chosen", (value, value)),
                                  ("never", ("by", (value,))), ("never", ("split", 0, value)), (value,)):
                     self.assertIs(accepts_chosen_in(TYPES, BOTH, table, case, number, evidence), False)
 
@@ -327,7 +328,8 @@ class Points139To146(unittest.TestCase):
         self.assertIs(accepts_alike_in(TYPES, BOTH, one, other, (0, 1), ("unlike", values, ("two", 0, 1), ("two", 0, 1))), False)
         # With a pattern ahead that does not match there, other numbers are named.
         more = ((INT, 0), *one)
-        self.assertEqual((choice_of(TYPES, BOTH, one, values), choice_of(TYPES, BOTH, more, values)), (("two", 0, 1), ("two", 1, 2)))
+        self.assertEqual((choice_of(TYPES, BOTH, one, values), choice_of(TYPES, BOTH, more, values)),
+                         (("two", 0, 1), ("two", 1, 2)))
         self.assertIs(alike_in(TYPES, BOTH, one, more, (ptr(0), 1)), True)
         value = ("unlike", values, ("two", 0, 1), ("two", 1, 2))
         self.assertIs(accepts_alike_in(TYPES, BOTH, one, more, (ptr(0), 1), value), False)
@@ -372,7 +374,8 @@ class Points139To146(unittest.TestCase):
     def test_the_order_of_the_lone_patterns(self):
         """Those of the one by their numbers, then those of the other."""
         a, b, c, d = (ZERO, 0), (nxt(ZERO), 0), (nxt(nxt(ZERO)), 0), (nxt(nxt(nxt(0))), 1)
-        for one, other, first in (((a, b), (c, d), a), ((b, a), (c, d), b), ((), (d, c), d), ((), (c, d), c), ((c,), (b, a, c), b)):
+        for one, other, first in (((a, b), (c, d), a), ((b, a), (c, d), b), ((), (d, c), d), ((), (c, d), c),
+                                  ((c,), (b, a, c), b)):
             word, values, *_ = alike_in_evidence(NUMBERS, BOTH, one, other, (0, 1))
             self.assertEqual(word, "unlike")
             self.assertIsNotNone(plain_cases.match(first, values))
@@ -386,7 +389,8 @@ class Points139To146(unittest.TestCase):
         wide = ("split", 0, (("by", 1), ("split", 1, (("by", 2), ("by", 2)))))
         wide_back = ("split", 1, (("split", 0, (("by", 1), ("by", 0))), back))
         for items, right in ((((0, tree, back, ()),), True), (((0, wide, back, ()),), True), (((0, tree, wide_back, ()),), True),
-                             (((False, tree, back, ()),), False), (((0, back, back, ()),), False), (((0, tree, tree, ()),), False),
+                             (((False, tree, back, ()),), False), (((0, back, back, ()),), False),
+                             (((0, tree, tree, ()),), False),
                              (((0, tree, back),), False), (((0, tree, back, []),), False), ([(0, tree, back, ())], False),
                              (((0, tree, back, ((0, ("by", 1)),)),), False), (((1, tree, back, ()),), False), ((), False),
                              (((0, tree, back, ()), (0, tree, back, ())), False), (([0, tree, back, ()],), False)):
@@ -400,7 +404,8 @@ class Points139To146(unittest.TestCase):
         told = alike_in_evidence(TYPES, SIX, one, other, case)
         pairs = ((0, ("by", 1)), (1, ("by", 0)))
         self.assertEqual(told, ("alike", ((0, ("by", 1), ("by", 0), pairs),), ()))
-        for given, right in ((pairs, True), (pairs[::-1], False), (pairs[:1], False), (((0, ("by", 1)), (True, ("by", 0))), False),
+        for given, right in ((pairs, True), (pairs[::-1], False), (pairs[:1], False),
+                             (((0, ("by", 1)), (True, ("by", 0))), False),
                              (((0, ("by", 0)), (1, ("by", 0))), False), ((pairs[0], pairs[0]), False), (list(pairs), False),
                              ((pairs[0], (1, ("by", 0), 0)), False), (([0, ("by", 1)], pairs[1]), False), (None, False),
                              ((pairs[0], (1, ("by", 1))), False), ((*pairs, (2, ("by", 0))), False)):
@@ -414,12 +419,15 @@ class Points139To146(unittest.TestCase):
         one, other = ((0, 1), (YES, 0), (0, YES)), ((0, 1), (YES, 0))
         star = ("unlike", (NO, YES), 2, 0)
         for value, right in ((star, True), (("unlike", (YES, YES), ("two", 1, 2), 1), True), (("unlike", (NO, NO), 0, 0), False),
-                             (("unlike", (NO, YES), 2, 1), False), (("unlike", (NO, YES), 0, 2), False), (("unlike", (NO, YES)), False),
+                             (("unlike", (NO, YES), 2, 1), False), (("unlike", (NO, YES), 0, 2), False),
+                             (("unlike", (NO, YES)), False),
                              (("unlike", (YES, YES), ("two", 2, 1), 1), False), (("unlike", (YES, YES), ["two", 1, 2], 1), False),
-                             (("unlike", (YES, YES), ("two", True, 2), 1), False), (("unlike", (YES, YES), ("two", 1, 2), True), False),
+                             (("unlike", (YES, YES), ("two", True, 2), 1), False),
+                             (("unlike", (YES, YES), ("two", 1, 2), True), False),
                              (("unlike", (YES, YES), ("two", 1, 2, 0), 1), False), (("unlike", (YES, YES), "two", 1), False),
                              (("unlike", (NO, YES), 2, False), False), (("unlike", [NO, YES], 2, 0), False),
-                             (("unlike", (YES, NO), 1, 1), False), (("unlike", (0, YES), 2, 0), False), (("unlike", (YES,), 2, 0), False)):
+                             (("unlike", (YES, NO), 1, 1), False), (("unlike", (0, YES), 2, 0), False),
+                             (("unlike", (YES,), 2, 0), False)):
             self.assertIs(accepts_alike_in(ANSWERS, BOTH, one, other, (0, 1), value), right)
         # Outside of the case.
         self.assertIs(accepts_alike_in(ANSWERS, BOTH, one, other, (0, YES), star), True)
@@ -472,7 +480,8 @@ class Points139To146(unittest.TestCase):
         for case in ((0, 1), (INT, 0), (ptr(0), ptr(1))):
             empty = ("alike", (), ())
             for value in (*NOTHINGS, *deep_things()):
-                for evidence in (value, ("alike", value, value), ("alike", (value,), ()), ("unlike", value, 0, 1), (value, (), ()),
+                for evidence in (value, ("alike", value, value), ("alike", (value,), ()), ("unlike", value, 0, 1),
+                                 (value, (), ()),
                                  ("unlike", (ptr(INT), ptr(INT)), value, 2), ("unlike", (ptr(INT), INT), 0, value),
                                  ("alike", ((0, value, value, value),), ()), ("alike", ((value, value, value, ()),), value),
                                  ("unlike", (value, value), value, value)):

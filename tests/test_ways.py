@@ -114,11 +114,13 @@ class Point149(unittest.TestCase):
         long = (TYPES, generics[:1], (("F", (("ptr", 0),), ("F", 0)), ("F", (("pair", 0, 1),), ("F", ("ptr", ("F", 0))))))
         self.assertEqual(definitions_on(long, (("F", chain("ptr", 59, ("int",))),)), (0,))
         long_way = (("F", chain("ptr", 59, ("int",))),)
-        self.assertEqual(told_or_word(definitions_on, (TYPES, generics[:1], (*long[2], ("F", (("int",),), ("int",)))), long_way), (0, 2))
+        ending = (TYPES, generics[:1], (*long[2], ("F", (("int",),), ("int",))))
+        self.assertEqual(told_or_word(definitions_on, ending, long_way), (0, 2))
 
     def test_wrong_uses(self):
         right = ("Half", ZERO)
-        for wrong in (None, 0, "Half", [right], [], {}, (None,), (right, None), (right, 0), (("Half",),), (("Half", 0),), (("half", ZERO),),
+        for wrong in (None, 0, "Half", [right], [], {}, (None,), (right, None), (right, 0), (("Half",),), (("Half", 0),),
+                      (("half", ZERO),),
                       (("Half", ZERO, ZERO),), (["Half", ZERO],), (("Half", ("#", 0)),), (("Half", number(60)),), (True,), right):
             bad(self, "uses", definitions_on, EXAMPLE, wrong)
         for thing in deep_things():

@@ -36,8 +36,10 @@ class Point170(unittest.TestCase):
     def test_letters(self):
         """Variable 0 is a, and so on, up to the twelfth one."""
         signature = (("closed", (("ab", ()), ("cd", (0, 0)))),)
-        program = (signature, (("F", (0, 0, 0), 0),), (("F", (("cd", 0, 1), ("cd", 2, 3), ("cd", 4, ("cd", 5, 6))), ("cd", 6, ("cd", 0, 4))),))
-        self.assertEqual(program_text(program), "ab | cd(0, 0); F(0, 0, 0): 0; F(cd(a, b), cd(c, d), cd(e, cd(f, g))) = cd(g, cd(a, e))")
+        program = (signature, (("F", (0, 0, 0), 0),), (("F", (("cd", 0, 1), ("cd", 2, 3), ("cd", 4, ("cd", 5, 6))),
+                                                        ("cd", 6, ("cd", 0, 4))),))
+        text = "ab | cd(0, 0); F(0, 0, 0): 0; F(cd(a, b), cd(c, d), cd(e, cd(f, g))) = cd(g, cd(a, e))"
+        self.assertEqual(program_text(program), text)
         self.assertEqual(program_text((TYPES, (("F", (0, 0), 0),), (("F", (0, 0), 0),))).split("; ")[-1], "F(a, a) = a")
 
     def test_uses(self):
@@ -71,7 +73,8 @@ class Point171(unittest.TestCase):
 
     def test_with_zeros_ahead(self):
         for dice, program in some_more_programs(80, 1710):
-            tokens = [token[1].zfill(dice.randint(1, 6)) if token[0] == "number" else token[1] for token in scan(program_text(program))[:-1]]
+            tokens = [token[1].zfill(dice.randint(1, 6)) if token[0] == "number" else token[1]
+                      for token in scan(program_text(program))[:-1]]
             self.assertEqual(read_program(spaced(tokens, dice)), program)
             use = some_use(program, dice)
             tokens = [token[1].zfill(6) if token[0] == "number" else token[1] for token in scan(use_text(program, use))[:-1]]
@@ -135,7 +138,8 @@ class Point172(unittest.TestCase):
             bad(self, "program", program_text, wrong)
             bad(self, "program", use_text, wrong, None)
         program = (TYPES, (("F", (0,), 0),), ())
-        for wrong in (*NOTHINGS, *deep_things(), ("F",), ("F", 0), ("G", ("int",)), ["F", ("int",)], ("F", ("#", True)), ("F", ("#", -1)),
+        for wrong in (*NOTHINGS, *deep_things(), ("F",), ("F", 0), ("G", ("int",)), ["F", ("int",)], ("F", ("#", True)),
+                      ("F", ("#", -1)),
                       ("F", chain("ptr", 60, ("int",))), ("F", ("int",), ("int",)), "F(int)"):
             bad(self, "use", use_text, program, wrong)
 
