@@ -1,20 +1,18 @@
 """Points 138 to 146 and 149: views, what a table chooses in a case, and tables that answer alike in a case."""
 
 import itertools
-import random
 import unittest
 
 from closestfit.choice import choice_of, is_table
 from closestfit.clear import chosen_evidence, is_clear
 from closestfit.covers import split_case
-from closestfit.errors import TooLarge
 from closestfit.meets import meet_of
 from closestfit.strangers import with_constructor
 from closestfit.views import (accepts_alike_in, accepts_chosen_in, alike_in, alike_in_evidence, chosen_in,
                               chosen_in_evidence, part_of)
 from tests import plain, plain_cases, plain_views
 from tests.makers import crossing_table, much_changed, odd_case, some_case, some_table
-from tests.samples import MIXED, NOTHINGS, NUMBERS, TYPES, bad, chain, deep_things, some_signatures, too_large
+from tests.samples import MIXED, NOTHINGS, NUMBERS, TYPES, bad, chain, deep_things, too_large
 from tests.tables import MORE_SPECIAL, SIX, SPECIAL, boxed_pigeons, great_value, meeting_in, split_tree
 from tests.test_clear import refilled, some_tables, told_or_word
 

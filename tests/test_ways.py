@@ -101,21 +101,18 @@ class Point149(unittest.TestCase):
 
     def test_uses_that_are_too_large_and_their_order(self):
         generics = (("F", (0,), 0), ("G", (0, 0), 0))
-        double = ("pair", 0, 0)
         program = (TYPES, generics, (("F", (0,), ("F", ("ptr", 0))), ("G", (("ptr", 0), 1), 0), ("G", (0, ("ptr", 1)), 0)))
         large = ("F", ("ptr", ("#", 0)))
         two = ("G", ("ptr", ("int",)), ("ptr", ("int",)))
         too_large(self, "rows", definitions_on, program, (large,))
         too_large(self, "rows", definitions_on, program, (large, two))
         not_possible(self, "two", definitions_on, program, (two, large))
-        growing = (TYPES, generics[:1], (("F", (0,), ("F", double)),))
-        self.assertEqual(told_or_word(done_evidence, growing, ("F", ("int",))), "value")
+        growing = (TYPES, generics[:1], (("F", (0,), ("F", ("pair", 0, 0))),))
         too_large(self, "value", definitions_on, growing, (("F", ("int",)),))
-        long = (TYPES, generics[:1], (("F", (("ptr", 0),), ("F", 0)), ("F", (("pair", 0, 1),), ("F", ("ptr", ("F", 0))))))
-        self.assertEqual(definitions_on(long, (("F", chain("ptr", 59, ("int",))),)), (0,))
-        long_way = (("F", chain("ptr", 59, ("int",))),)
-        ending = (TYPES, generics[:1], (*long[2], ("F", (("int",),), ("int",))))
-        self.assertEqual(told_or_word(definitions_on, ending, long_way), (0, 2))
+        # Sixty uses are not too many, whether the last one has a definition or not.
+        down, end = ("F", (("ptr", 0),), ("F", 0)), ("F", (("int",),), ("int",))
+        for definitions, right in (((down,), (0,)), ((down, end), (0, 1))):
+            self.assertEqual(definitions_on((TYPES, generics, definitions), (("F", chain("ptr", 59, ("int",))),)), right)
 
     def test_wrong_uses(self):
         right = ("Half", ZERO)
